@@ -1,0 +1,1 @@
+"""Who may do what, by rows of objects, relations and users."""
