@@ -1,54 +1,25 @@
 """Objects, rows and states: which values are such, and the rows of a state by what they tell."""
 
 from relatedrights.errors import InvalidObject, InvalidState, InvalidUser
-from relatedrights.rules import is_link_like, is_thing_kind, is_user_kind
-from relatedrights.words import is_number, is_tuple
+from relatedrights.rules import is_thing_kind, is_user_kind
+from relatedrights.words import is_pair
 
 MOST_ROWS = 2000
 
 
 def is_thing(tables, value):
     """Return whether any object is a thing."""
-    return is_tuple(value, 2, 2) and is_thing_kind(tables.kinds, value[0]) and is_number(value[1])
+    return is_pair(value) and is_thing_kind(tables.kinds, value[0])
 
 
 def is_user(tables, value):
     """Return whether any object is a user."""
-    return is_tuple(value, 2, 2) and is_user_kind(tables.kinds, value[0]) and is_number(value[1])
+    return is_pair(value) and is_user_kind(tables.kinds, value[0])
 
 
 def is_row(tables, value):
     """Return whether any object is a row."""
-    if not is_tuple(value, 3, 3) or not is_thing(tables, value[0]) or not isinstance(value[1], str):
-        return False
-    thing, relation, subject = value
-    rule = tables.kinds[thing[0]].get(relation)
-    if rule is None or not is_tuple(subject, 2, 3) or not isinstance(subject[0], str):
-        return False
-    if is_link_like(rule):
-        return is_link_subject(tables, rule[1], subject)
-    return form_of(tables, subject) in tables.forms[(thing[0], relation)]
-
-
-def is_link_subject(tables, kinds, subject):
-    """Return whether a tuple that begins with a word is the subject of a link to these kinds."""
-    if len(subject) != 2 or subject[0] != "one" or not is_thing(tables, subject[1]):
-        return False
-    return subject[1][0] in kinds
-
-
-def form_of(tables, subject):
-    """Return the form by which a tuple that begins with a word is written, or None."""
-    word = subject[0]
-    if word == "who":
-        if len(subject) == 3 and is_thing(tables, subject[1]) and isinstance(subject[2], str):
-            return (word, subject[1][0], subject[2])
-    elif len(subject) == 2:
-        if word == "one" and is_user(tables, subject[1]):
-            return (word, subject[1][0])
-        if word == "all" and isinstance(subject[1], str):
-            return subject
-    return None
+    return Index(tables).read((value,)) is None
 
 
 def require_thing(tables, value):
@@ -67,50 +38,133 @@ def index_of(tables, state):
     """Return the index of a state, or raise InvalidState."""
     if not isinstance(state, (list, tuple)) or len(state) > MOST_ROWS:
         raise InvalidState(-1)
-    for k, row in enumerate(state):
-        if not is_row(tables, row):
-            raise InvalidState(k)
-    return Index(tables, state)
+    index = Index(tables)
+    wrong = index.read(state)
+    if wrong is not None:
+        raise InvalidState(wrong)
+    return index
+
+
+def tells_right(subject, rights):
+    """Return whether any tuple is a subject ("who", thing, relation) that tells one of these rights."""
+    if len(subject) != 3 or subject[0] != "who" or not is_pair(subject[1]) or not isinstance(subject[2], str):
+        return False
+    return (subject[1][0], subject[2]) in rights
 
 
 class Index:
-    """The rows of a state by what they tell; there may be any number of them.
+    """The rows of a state by what they tell; there may be any number of them, and they may change.
 
-    things and users: those that rows name. By (thing, relation): links, the things to which a link
-    leads; ones, alls and whos, the users, the bare kinds and the rights (thing, relation) that the
-    subjects of a right tell. All these are dicts of True, for each thing told once.
+    shelves is {kind: {relation: (ones, alls, rights, plain, whos)}}. The first three say of what kind the
+    subjects of the relation are [Tables.forms]. plain and whos are {thing: {subject: True}}, the one for
+    subjects that begin with "one" and "all", the other for "who"; they hold no thing without subjects.
     """
 
-    def __init__(self, tables, rows):
-        self.things = {}
-        self.users = {}
-        self.links = {}
-        self.ones = {}
-        self.alls = {}
-        self.whos = {}
-        for thing, relation, subject in rows:
-            self.things[thing] = True
-            if is_link_like(tables.kinds[thing[0]][relation]):
-                self.things[subject[1]] = True
-                self.links.setdefault((thing, relation), {})[subject[1]] = True
+    def __init__(self, tables):
+        self.tables = tables
+        self.shelves = {
+            kind: {name: (*three, {}, {}) for name, three in forms.items()} for kind, forms in tables.forms.items()
+        }
+
+    def read(self, rows):
+        """Put in rows until the first of any objects that is no row; return its place, or None."""
+        shelves = self.shelves
+        # This is done with each row of each state; so what `is_pair` tests stands here twice, without calls.
+        for k, row in enumerate(rows):
+            if not isinstance(row, tuple) or len(row) != 3:
+                return k
+            thing, relation, subject = row
+            if not isinstance(thing, tuple) or len(thing) != 2 or not isinstance(subject, tuple):
+                return k
+            kind, number = thing
+            if not isinstance(kind, str) or type(number) is not int or number < 0 or not isinstance(relation, str):
+                return k
+            try:
+                ones, alls, rights, shelf, whos = shelves[kind][relation]
+            except KeyError:
+                return k
+            if len(subject) == 2:
+                word, what = subject
+                if isinstance(what, tuple):
+                    if word != "one" or len(what) != 2:
+                        return k
+                    far, number = what
+                    if not isinstance(far, str) or type(number) is not int or number < 0 or far not in ones:
+                        return k
+                elif word != "all" or not isinstance(what, str) or what not in alls:
+                    return k
+            elif tells_right(subject, rights):
+                shelf = whos
             else:
-                self.take_in((thing, relation), subject)
+                return k
+            subjects = shelf.get(thing)
+            if subjects is None:
+                shelf[thing] = {subject: True}
+            else:
+                subjects[subject] = True
+        return None
 
-    def take_in(self, right, subject):
-        """Take in a row of a right to a thing."""
-        if subject[0] == "one":
-            self.users[subject[1]] = True
-            self.ones.setdefault(right, {})[subject[1]] = True
-        elif subject[0] == "all":
-            self.alls.setdefault(right, {})[subject[1]] = True
-        else:
-            self.things[subject[1]] = True
-            self.whos.setdefault(right, {})[subject[1:]] = True
+    def plain(self, kind, relation):
+        """Return {thing: {subject: True}} for the subjects of a relation that begin with "one" and "all"."""
+        return self.shelves[kind][relation][3]
 
-    def read_by(self, thing, relation, leaf):
-        """Return the rights to things that a leaf of the rule of a right to a thing reads."""
-        if leaf[0] == "direct":
-            return list(self.whos.get((thing, relation), {}))
-        if leaf[0] == "same":
-            return [(thing, leaf[1])]
-        return [(other, leaf[2]) for other in self.links.get((thing, leaf[1]), {})]
+    def whos(self, kind, relation):
+        """Return {thing: {subject: True}} for the subjects of a right that begin with "who"."""
+        return self.shelves[kind][relation][4]
+
+    def shelf_of(self, row):
+        """Return the part {thing: {subject: True}} of the index in which a row belongs."""
+        if row[2][0] == "who":
+            return self.whos(row[0][0], row[1])
+        return self.plain(row[0][0], row[1])
+
+    def has(self, row):
+        """Return whether a row is there."""
+        return row[2] in self.shelf_of(row).get(row[0], {})
+
+    def put(self, row):
+        """Put a row in, if it is not there."""
+        self.shelf_of(row).setdefault(row[0], {})[row[2]] = True
+
+    def take(self, row):
+        """Take a row out, if it is there."""
+        shelf = self.shelf_of(row)
+        subjects = shelf.get(row[0], {})
+        if row[2] in subjects:
+            del subjects[row[2]]
+            if not subjects:
+                del shelf[row[0]]
+
+    def rows(self):
+        """Return all rows, each once, ascending."""
+        found = []
+        for kind in self.shelves:
+            for relation in self.shelves[kind]:
+                for shelf in self.shelves[kind][relation][3:]:
+                    for thing, subjects in shelf.items():
+                        found.extend([(thing, relation, subject) for subject in subjects])
+        return sorted(found)
+
+    def things(self):
+        """Return the things that rows name, ascending."""
+        found = {}
+        for kind in self.shelves:
+            for relation, (_, _, _, plain, whos) in self.shelves[kind].items():
+                # Only the subjects of links and those with "who" tell things.
+                telling = plain if relation in self.tables.links[kind] else whos
+                for thing in plain:
+                    found[thing] = True
+                for thing, subjects in telling.items():
+                    found[thing] = True
+                    for subject in subjects:
+                        found[subject[1]] = True
+        return sorted(list(found))
+
+    def users(self):
+        """Return the users that rows name, ascending."""
+        found = {}
+        for kind in self.shelves:
+            for relation in self.tables.bits[kind]:
+                for subjects in self.plain(kind, relation).values():
+                    found.update({subject[1]: True for subject in subjects if subject[0] == "one"})
+        return sorted(list(found))

@@ -2,6 +2,7 @@
 
 `kinds` is {kind: {relation: rule}} in the order of the schema. Until all rules are known to be
 right, a relation counts as a link by the first word of its rule alone, as a right otherwise.
+A set of rights is a number here, with a bit for each of them.
 """
 
 from relatedrights.words import is_name, is_tuple
@@ -10,6 +11,9 @@ MOST_LINK_KINDS = 4
 MOST_FORMS = 4
 MOST_PARTS = 4
 DEEPEST_RULE = 6
+
+# Joined with any set of rights by `|` it stays itself, so one wrong part makes the whole rule wrong.
+WRONG = -1
 
 
 def is_link_like(rule):
@@ -27,77 +31,14 @@ def is_thing_kind(kinds, value):
     return isinstance(value, str) and value in kinds and len(kinds[value]) > 0
 
 
-def is_relation(kinds, kind, value):
-    """Return whether any two objects are a kind and a relation of it."""
-    return is_thing_kind(kinds, kind) and isinstance(value, str) and value in kinds[kind]
-
-
-def is_right(kinds, kind, value):
-    """Return whether any two objects are a kind and a right of it."""
-    return is_relation(kinds, kind, value) and not is_link_like(kinds[kind][value])
-
-
-def is_link(kinds, kind, value):
-    """Return whether any two objects are a kind and a link of it."""
-    return is_relation(kinds, kind, value) and is_link_like(kinds[kind][value])
-
-
-def is_rule(kinds, kind, rule):
-    """Return whether any object is the rule of a relation of this kind."""
-    if is_link_like(rule):
-        return is_link_rule(kinds, rule)
-    return is_right_rule(kinds, kind, rule)
-
-
 def is_link_rule(kinds, rule):
     """Return whether a tuple that begins with "links" is the rule of a link."""
     if len(rule) != 2 or not is_tuple(rule[1], 1, MOST_LINK_KINDS):
         return False
-    if not all([is_thing_kind(kinds, kind) for kind in rule[1]]):
-        return False
+    for kind in rule[1]:
+        if not is_thing_kind(kinds, kind):
+            return False
     return len(set(rule[1])) == len(rule[1])
-
-
-def is_right_rule(kinds, kind, rule):
-    """Return whether any object is the rule of a right of this kind."""
-    directs = 0
-    row = [rule]
-    # Row by row, not by recursion: a wrong rule may be nested without bound.
-    for _ in range(DEEPEST_RULE):
-        below = []
-        for part in row:
-            if not is_part(kinds, kind, part):
-                return False
-            if part[0] == "direct":
-                directs += 1
-            below.extend(parts_of(part))
-        row = below
-    return directs <= 1 and not row
-
-
-def is_part(kinds, kind, part):
-    """Return whether any object is a part of a rule, whatever the parts in it are."""
-    if not is_tuple(part, 2, 3) or not isinstance(part[0], str):
-        return False
-    word = part[0]
-    if word == "through":
-        return len(part) == 3 and is_through(kinds, kind, part[1], part[2])
-    if word == "but":
-        return len(part) == 3
-    if len(part) != 2:
-        return False
-    if word == "direct":
-        return are_forms(kinds, part[1])
-    if word == "same":
-        return is_right(kinds, kind, part[1])
-    return word in ("either", "both") and is_tuple(part[1], 2, MOST_PARTS)
-
-
-def is_through(kinds, kind, link, relation):
-    """Return whether two objects are a link of the kind and a right of all that it leads to."""
-    if not is_name(relation) or not is_link(kinds, kind, link):
-        return False
-    return all([is_right(kinds, far, relation) for far in kinds_told(kinds[kind][link])])
 
 
 def kinds_told(rule):
@@ -107,27 +48,99 @@ def kinds_told(rule):
     return rule[1]
 
 
-def are_forms(kinds, forms):
-    """Return whether any object is what a direct part may have."""
-    if not is_tuple(forms, 1, MOST_FORMS):
-        return False
-    if not all([is_form(kinds, form) for form in forms]):
-        return False
-    return len(set(forms)) == len(forms)
+class Reader:
+    """Reads the rules of rights, and finds what is wrong with them.
 
+    bits: {kind: {right: the set of this right alone}}; links: {kind: {link: the kinds that it tells}}.
+    Of the rule that was read last: forms, a tuple of the bare kinds that its direct part tells by "one", of
+    those by "all", and of the rights by "who", each a dict of True; taken, the set of the rights that it
+    names in the second parts of buts.
+    """
 
-def is_form(kinds, form):
-    """Return whether any object is a form."""
-    if not is_tuple(form, 2, 3) or not isinstance(form[0], str):
-        return False
-    if form[0] == "who":
-        return len(form) == 3 and is_right(kinds, form[1], form[2])
-    return form[0] in ("one", "all") and len(form) == 2 and is_user_kind(kinds, form[1])
+    def __init__(self, kinds, bits, links):
+        self.kinds = kinds
+        self.bits = bits
+        self.links = links
+        self.own_bits = {}
+        self.own_links = {}
+        self.forms = None
+        self.taken = 0
+
+    def read_rule(self, kind, rule):
+        """Return the set of the rights that any object names as the rule of a right of a kind, or WRONG."""
+        self.own_bits = self.bits[kind]
+        self.own_links = self.links[kind]
+        self.forms = None
+        self.taken = 0
+        return self.read_part(rule, DEEPEST_RULE)
+
+    def read_part(self, part, levels):
+        """Return the same for a part that may be so deep."""
+        if not isinstance(part, tuple) or not 2 <= len(part) <= 3 or not isinstance(part[0], str):
+            return WRONG
+        word = part[0]
+        if len(part) == 3:
+            if word == "through":
+                return self.read_through(part[1], part[2])
+            if word != "but" or levels == 1:
+                return WRONG
+            taken = self.read_part(part[2], levels - 1)
+            self.taken |= taken
+            return taken | self.read_part(part[1], levels - 1)
+        inner = part[1]
+        if word == "same":
+            return self.own_bits.get(inner, WRONG) if isinstance(inner, str) else WRONG
+        if word == "direct":
+            return self.read_forms(inner)
+        if (word != "either" and word != "both") or levels == 1 or not is_tuple(inner, 2, MOST_PARTS):
+            return WRONG
+        named = 0
+        for one in inner:
+            named |= self.read_part(one, levels - 1)
+        return named
+
+    def read_through(self, link, relation):
+        """Return the set of the rights that a through part names, or WRONG."""
+        if not isinstance(link, str) or link not in self.own_links or not isinstance(relation, str):
+            return WRONG
+        far_kinds = self.own_links[link]
+        named = 0
+        for far in far_kinds:
+            if not isinstance(far, str) or far not in self.bits:
+                return WRONG
+            named |= self.bits[far].get(relation, WRONG)
+        return named if far_kinds or is_name(relation) else WRONG
+
+    def read_forms(self, forms):
+        """Return the set of the rights that the forms of the only direct part name, or WRONG."""
+        if self.forms is not None or not is_tuple(forms, 1, MOST_FORMS):
+            return WRONG
+        named = 0
+        ones, alls, rights = self.forms = ({}, {}, {})
+        for form in forms:
+            if not isinstance(form, tuple) or not 2 <= len(form) <= 3:
+                return WRONG
+            if not isinstance(form[0], str) or not isinstance(form[1], str) or form[1] not in self.kinds:
+                return WRONG
+            if len(form) == 3:
+                if form[0] != "who" or not isinstance(form[2], str):
+                    return WRONG
+                named |= self.bits[form[1]].get(form[2], WRONG)
+                rights[form[1:]] = True
+            elif self.kinds[form[1]]:
+                return WRONG
+            elif form[0] == "one":
+                ones[form[1]] = True
+            elif form[0] == "all":
+                alls[form[1]] = True
+            else:
+                return WRONG
+        return named if len(ones) + len(alls) + len(rights) == len(forms) else WRONG
 
 
 def parts_of(part):
     """Return the parts that stand directly in a part of a rule."""
-    if part[0] in ("either", "both"):
+    if part[0] == "either" or part[0] == "both":
         return part[1]
     if part[0] == "but":
         return part[1:]
@@ -135,32 +148,17 @@ def parts_of(part):
 
 
 def leaves_of(rule):
-    """Return the parts of a rule that have no parts, in reading order.
-
-    They come as tuples (leaf, taken): taken tells whether it stands in the second part of a but.
-    """
+    """Return the parts of a rule that have no parts, in reading order."""
     found = []
-    waiting = [(rule, False)]
+    waiting = [rule]
     while waiting:
-        part, taken = waiting.pop()
+        part = waiting.pop()
         parts = parts_of(part)
-        if part[0] == "but":
-            waiting.append((parts[1], True))
-            waiting.append((parts[0], taken))
-        elif parts:
-            waiting.extend([(inner, taken) for inner in reversed(parts)])
+        if parts:
+            waiting.extend(parts[::-1])
         else:
-            found.append((part, taken))
+            found.append(part)
     return found
-
-
-def rights_named(kinds, kind, leaf):
-    """Return the rights that a leaf of a rule of this kind names, as tuples (kind, relation)."""
-    if leaf[0] == "direct":
-        return [(form[1], form[2]) for form in leaf[1] if form[0] == "who"]
-    if leaf[0] == "same":
-        return [(kind, leaf[1])]
-    return [(far, leaf[2]) for far in kinds[kind][leaf[1]][1]]
 
 
 def shape_of(rule, places):

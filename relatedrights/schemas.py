@@ -13,13 +13,15 @@ def depends_on(schema, kind, relation):
     tables = tables_of(schema)
     require_thing_kind(tables, kind)
     require_right(tables, kind, relation)
-    found = tables.depended_on((kind, relation))
-    return [right for right in tables.rights if right in found]
+    rights = tables.rights()
+    found = tables.depended_on(tables.named[rights.index((kind, relation))])
+    return [right for k, right in enumerate(rights) if found >> k & 1]
 
 
 def strata(schema):
     """Return the rights of each level, from 0 on, in the order of the schema [1.3]."""
     tables = tables_of(schema)
-    levels = tables.levels()
-    highest = max([0] + [levels[right] for right in tables.rights])
-    return [[right for right in tables.rights if levels[right] == level] for level in range(highest + 1)]
+    rights = tables.rights()
+    levels = [tables.level(kind, relation) for kind, relation in rights]
+    highest = max([0] + levels)
+    return [[right for k, right in enumerate(rights) if levels[k] == level] for level in range(highest + 1)]

@@ -1,9 +1,9 @@
 """States: who has which rights, by the rows of a state."""
 
+from relatedrights.askers import Asker
 from relatedrights.errors import Mismatch
-from relatedrights.holders import masks_of
+from relatedrights.holders import Holders
 from relatedrights.rows import index_of, is_row, require_thing, require_user
-from relatedrights.rules import is_user_kind
 from relatedrights.tables import require_right, tables_of
 
 
@@ -25,8 +25,7 @@ def check(schema, state, thing, relation, user):
     require_thing(tables, thing)
     require_right(tables, thing[0], relation)
     require_user(tables, user)
-    node = (thing, relation)
-    return masks_of(tables, index, [user], [node]).get(node, 0) != 0
+    return Asker(tables, index, user).has(thing, relation)
 
 
 def who_has(schema, state, thing, relation):
@@ -35,14 +34,7 @@ def who_has(schema, state, thing, relation):
     index = index_of(tables, state)
     require_thing(tables, thing)
     require_right(tables, thing[0], relation)
-    node = (thing, relation)
-    named = sorted(list(index.users))
-    bare = sorted([kind for kind in tables.kinds if is_user_kind(tables.kinds, kind)])
-    # No row can name a user with this number, so it stands for all unnamed users of the kind.
-    users = named + [(kind, -1) for kind in bare]
-    mask = masks_of(tables, index, users, [node]).get(node, 0)
-    had = [user for k, user in enumerate(users) if mask >> k & 1]
-    return [user for user in had if user[1] >= 0], [user[0] for user in had if user[1] < 0]
+    return Holders(tables, index, [(thing, relation)]).holders_of((thing, relation))
 
 
 def rights_of(schema, state, user):
@@ -50,12 +42,10 @@ def rights_of(schema, state, user):
     tables = tables_of(schema)
     index = index_of(tables, state)
     require_user(tables, user)
-    things = sorted(list(index.things))
-    nodes = [(thing, relation) for thing in things for relation in tables.relations[thing[0]]]
-    masks = masks_of(tables, index, [user], nodes)
-    return [node for node in nodes if masks.get(node, 0)]
+    asker = Asker(tables, index, user)
+    return [(thing, name) for thing in index.things() for name in tables.bits[thing[0]] if asker.has(thing, name)]
 
 
 def named_users(schema, state):
     """Return the users that the rows of a state name [2.4]."""
-    return sorted(list(index_of(tables_of(schema), state).users))
+    return index_of(tables_of(schema), state).users()

@@ -2,7 +2,7 @@
 
 from relatedrights.errors import CircularBut, InvalidKind, InvalidRelation, InvalidSchema
 from relatedrights.rules import (
-    is_link_like, is_right, is_rule, is_thing_kind, leaves_of, rights_named, shape_of,
+    Reader, is_link_like, is_link_rule, is_thing_kind, kinds_told, leaves_of, shape_of,
 )
 from relatedrights.words import is_name, is_tuple
 
@@ -11,85 +11,124 @@ MOST_RELATIONS = 6
 
 
 class Tables:
-    """What the rules of a schema tell; a right is a tuple (kind, relation).
+    """What the rules of a schema tell; a set of rights is a number with a bit for each of them.
 
-    kinds: {kind: {relation: rule}}; rights: all rights; relations: {kind: its rights by name}, all of
-    them in the order of the schema. By right: leaves, the different leaves of its rule; shapes, its
-    rule with the places of these [rules.shape_of]; forms, its direct part as a dict of True; named and
-    taken, the rights that it names, and those that it names in the second part of a but, likewise.
+    kinds: {kind: {relation: rule}}, in the order of the schema. By kind: bits, {right: the set of it
+    alone}; links, {link: the kinds that it leads to}; forms, {relation: a tuple of the kinds that its rows
+    tell by "one", of those by "all", and of the rights (kind, relation) by "who", each a dict of True}. By
+    the place of a right in the schema: named, the set of the rights that it names, and taken, the set of
+    those that it names in the second part of a but.
     """
 
     def __init__(self, kinds):
         self.kinds = kinds
-        self.rights = []
-        self.relations = {}
-        self.leaves = {}
-        self.shapes = {}
+        self.bits = {}
+        self.links = {}
         self.forms = {}
-        self.named = {}
-        self.taken = {}
+        self.named = []
+        self.taken = []
+        self.ranking = None
+        self.shapes = {}
+        bit = 1
         for kind in kinds:
-            self.relations[kind] = [name for name in kinds[kind] if not is_link_like(kinds[kind][name])]
-            for name in self.relations[kind]:
-                self.rights.append((kind, name))
-        for right in self.rights:
-            self.read_rule(right)
+            bits = {}
+            links = {}
+            for name, rule in kinds[kind].items():
+                if is_link_like(rule):
+                    links[name] = kinds_told(rule)
+                else:
+                    bits[name] = bit
+                    bit += bit
+            self.bits[kind] = bits
+            self.links[kind] = links
 
-    def read_rule(self, right):
-        """Fill in the tables of one right."""
-        rule = self.kinds[right[0]][right[1]]
-        places = {}
-        self.forms[right] = {}
-        self.named[right] = {}
-        self.taken[right] = {}
-        for leaf, taken in leaves_of(rule):
-            places.setdefault(leaf, len(places))
-            for other in rights_named(self.kinds, right[0], leaf):
-                self.named[right][other] = True
-                if taken:
-                    self.taken[right][other] = True
-        for leaf in places:
-            if leaf[0] == "direct":
-                self.forms[right] = {form: True for form in leaf[1]}
-        self.leaves[right] = list(places)
-        self.shapes[right] = shape_of(rule, places)
+    def read_rules(self):
+        """Read all rules, or raise InvalidSchema for the first one that is none."""
+        reader = Reader(self.kinds, self.bits, self.links)
+        for k, kind in enumerate(self.kinds):
+            forms = {}
+            for r, (name, rule) in enumerate(self.kinds[kind].items()):
+                if name in self.links[kind]:
+                    if not is_link_rule(self.kinds, rule):
+                        raise InvalidSchema((k, r))
+                    forms[name] = ({far: True for far in rule[1]}, {}, {})
+                else:
+                    named = reader.read_rule(kind, rule)
+                    if named < 0:
+                        raise InvalidSchema((k, r))
+                    self.named.append(named)
+                    self.taken.append(reader.taken)
+                    forms[name] = reader.forms or ({}, {}, {})
+            self.forms[kind] = forms
 
-    def depended_on(self, right):
-        """Return the rights on which a right depends, as a dict of True."""
-        found = {}
-        waiting = list(self.named[right])
+    def rights(self):
+        """Return all rights, as tuples (kind, relation), in the order of the schema."""
+        return [(kind, name) for kind in self.kinds for name in self.bits[kind]]
+
+    def bare_kinds(self):
+        """Return the bare kinds, ascending."""
+        return sorted([kind for kind in self.kinds if not self.kinds[kind]])
+
+    def depended_on(self, rights):
+        """Return the set of the rights in a set, and of those on which these depend."""
+        found = rights
+        waiting = rights
         while waiting:
-            other = waiting.pop()
-            if other not in found:
-                found[other] = True
-                waiting.extend(list(self.named[other]))
+            named = self.named[waiting.bit_length() - 1]
+            waiting ^= 1 << waiting.bit_length() - 1
+            waiting |= named & ~found
+            found |= named
         return found
+
+    def level(self, kind, relation):
+        """Return the level of a right."""
+        if self.ranking is None:
+            self.ranking = self.levels()
+        return self.ranking[kind][relation]
 
     def levels(self):
-        """Return {right: level}."""
-        found = {right: 0 for right in self.rights}
-        rising = True
+        """Return {kind: {right: level}}."""
+        found = {kind: {name: 0 for name in self.bits[kind]} for kind in self.kinds}
+        rising = self.taking(-1)
         while rising:
-            rising = False
-            for right in self.rights:
-                least = self.least_level(right, found)
-                if least > found[right]:
-                    found[right] = least
-                    rising = True
+            # What takes away what is not below a level stands above it, and so does all that depends on this.
+            rising = self.naming(rising)
+            for kind in self.kinds:
+                for name, bit in self.bits[kind].items():
+                    if rising & bit:
+                        found[kind][name] += 1
+            rising = self.taking(rising)
         return found
 
-    def least_level(self, right, levels):
-        """Return the least level that the levels of the rights that it names leave to a right."""
-        least = [levels[other] for other in self.named[right]]
-        above = [levels[other] + 1 for other in self.taken[right]]
-        return max([0] + least + above)
+    def taking(self, rights):
+        """Return the set of the rights that take away one of a set."""
+        return sum([1 << k for k, taken in enumerate(self.taken) if taken & rights])
+
+    def naming(self, rights):
+        """Return the set of the rights in a set, and of those that depend on them."""
+        found = rights
+        more = rights
+        while more:
+            more = sum([1 << k for k, named in enumerate(self.named) if named & more and not found >> k & 1])
+            found |= more
+        return found
+
+    def leaves_by(self, kind, relation):
+        """Return a tuple of the different leaves of the rule of a right, and its shape [rules.shape_of]."""
+        right = (kind, relation)
+        if right not in self.shapes:
+            rule = self.kinds[kind][relation]
+            places = {}
+            for leaf in leaves_of(rule):
+                places.setdefault(leaf, len(places))
+            self.shapes[right] = (list(places), shape_of(rule, places))
+        return self.shapes[right]
 
 
 def tables_of(schema):
     """Return the tables of a schema, or raise an error of a schema."""
-    kinds = kinds_of(schema)
-    require_rules(kinds)
-    tables = Tables(kinds)
+    tables = Tables(kinds_of(schema))
+    tables.read_rules()
     require_buts(tables)
     return tables
 
@@ -100,45 +139,26 @@ def kinds_of(schema):
         raise InvalidSchema(())
     kinds = {}
     for k, row in enumerate(schema):
-        if not is_kind_row(kinds, row):
+        if not is_tuple(row, 2, 2) or not is_name(row[0]) or row[0] in kinds or not is_tuple(row[1], 0, MOST_RELATIONS):
             raise InvalidSchema((k,))
-        kinds[row[0]] = relations_of(k, row[1])
-    return kinds
-
-
-def is_kind_row(kinds, row):
-    """Return whether any object is a tuple of a name, none of these kinds, and a tuple of relations."""
-    if not is_tuple(row, 2, 2) or not is_name(row[0]) or row[0] in kinds:
-        return False
-    return is_tuple(row[1], 0, MOST_RELATIONS)
-
-
-def relations_of(k, entries):
-    """Return {relation: rule} for the entries of row k."""
-    relations = {}
-    for r, entry in enumerate(entries):
-        if not is_tuple(entry, 2, 2) or not is_name(entry[0]) or entry[0] in relations:
-            raise InvalidSchema((k, r))
-        relations[entry[0]] = entry[1]
-    return relations
-
-
-def require_rules(kinds):
-    """Raise InvalidSchema for the first relation whose rule is none."""
-    for k, kind in enumerate(kinds):
-        for r, relation in enumerate(kinds[kind]):
-            if not is_rule(kinds, kind, kinds[kind][relation]):
+        relations = {}
+        for r, entry in enumerate(row[1]):
+            if not is_tuple(entry, 2, 2) or not is_name(entry[0]) or entry[0] in relations:
                 raise InvalidSchema((k, r))
+            relations[entry[0]] = entry[1]
+        kinds[row[0]] = relations
+    return kinds
 
 
 def require_buts(tables):
     """Raise CircularBut for the first right that depends on itself as it may not."""
-    below = {right: tables.depended_on(right) for right in tables.rights}
-    for right in tables.rights:
-        for near in [right] + list(below[right]):
+    found = [k for k, taken in enumerate(tables.taken) if taken and tables.depended_on(taken) >> k & 1]
+    if found:
+        for k, (kind, relation) in enumerate(tables.rights()):
             # A way may pass a right more than once, so any second part on a way back counts.
-            if any([right in below[far] for far in tables.taken[near]]):
-                raise CircularBut(right[0], right[1])
+            below = tables.depended_on(1 << k)
+            if any([below >> near & 1 and tables.depended_on(tables.taken[near]) >> k & 1 for near in found]):
+                raise CircularBut(kind, relation)
 
 
 def require_thing_kind(tables, kind):
@@ -149,5 +169,5 @@ def require_thing_kind(tables, kind):
 
 def require_right(tables, kind, relation):
     """Raise InvalidRelation for any object that is no right of the kind."""
-    if not is_right(tables.kinds, kind, relation):
+    if not isinstance(relation, str) or relation not in tables.bits[kind]:
         raise InvalidRelation(relation)

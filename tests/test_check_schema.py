@@ -115,7 +115,7 @@ class RulesTest(unittest.TestCase):
         for form in good:
             self.assertEqual(told(check_schema, with_rule(("direct", (form,)))), FINE, form)
         for form in (("one", "doc"), ("all", "doc"), ("one", "none"), ("one",), ("one", "user", "user"),
-                     ("some", "user"), ("who", "group"), ("who", "group", "member", "member"),
+                     ("one", "user", "user", "user"), ("all", "bot", "bot", "bot"), ("some", "user"), ("who", "group"), ("who", "group", "member", "member"),
                      ("who", "user", "member"), ["one", "user"], ("who", "doc", "up"),
                      ("who", "doc", "member"), ("who", "none", "see"), ("one", ["user"]), "one",
                      ("who", ["doc"], "see"), ("who", "doc", ["see"]), (["one"], "user"), (), ("one", 5), None):
@@ -258,6 +258,15 @@ class WhichErrorComesFirstTest(unittest.TestCase):
             self.assertEqual(told(check_schema, rows), wrong(0, 1))
             for name in (None, ["see"], "", 5):
                 rows = (("doc", (("see", ("through", "up", name)), ("up", rule))),)
+                self.assertEqual(told(check_schema, rows), wrong(0, 0))
+
+    def test_a_link_that_tells_what_is_no_kind_has_no_right_there(self):
+        for entry in ("none", "user", "", ["doc"], ("doc",), 5, None):
+            for told_kinds in ((entry,), ("doc", entry), (entry, "doc")):
+                link = ("up", ("links", told_kinds))
+                rows = (("doc", (("see", ("through", "up", "see")), link)), ("user", ()))
+                self.assertEqual(told(check_schema, rows), wrong(0, 0))
+                rows = (("doc", (link, ("see", ("through", "up", "see")))), ("user", ()))
                 self.assertEqual(told(check_schema, rows), wrong(0, 0))
 
 

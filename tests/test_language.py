@@ -24,7 +24,8 @@ BUILTINS = set("""len range enumerate zip min max sum abs sorted reversed int st
     NotImplementedError AttributeError StopIteration NotImplemented""".split())
 METHODS = set("""append clear copy count endswith extend find get index insert isalnum isalpha isdigit islower isspace
     isupper items join keys ljust lower lstrip partition pop remove replace reverse rfind rjust rpartition rsplit rstrip
-    setdefault split splitlines startswith strip update upper values zfill bit_length""".split())
+    setdefault split splitlines startswith strip update upper values zfill bit_length isascii removeprefix
+    removesuffix""".split())
 BARRED_ATTRIBUTES = set("""items keys values pop update append clear extend insert remove reverse setdefault sort args
     encode decode hex fromhex format format_map mro register elements open input law""".split())
 BARRED_NAMES = set("""register mro elements open input law version_info with_traceback add_note attrgetter breakpoint
@@ -77,6 +78,14 @@ def is_view(node):
     if isinstance(node.func, ast.Name):
         return node.func.id in AT_ONCE
     return isinstance(node.func, ast.Attribute) and node.func.attr in VIEWS
+
+
+def is_class_test(node):
+    """Whether it is a comparison of `type(x)` with a builtin class by `is` or `is not`."""
+    if not isinstance(node, ast.Compare) or called(node.left) != "type" or len(node.left.args) != 1:
+        return False
+    return len(node.ops) == 1 and isinstance(node.ops[0], (ast.Is, ast.IsNot)) and (
+        getattr(node.comparators[0], "id", None) in ("int", "str", "bool", "list", "tuple", "dict", "set"))
 
 
 def is_set(node):
@@ -176,6 +185,7 @@ class LanguageTest(unittest.TestCase):
 
     def test_names(self):
         own = {node.name for tree in TREES.values() for node in classes_in(tree) + functions_in(tree)}
+        fine = [node.left.func for tree in TREES.values() for node in ast.walk(tree) if is_class_test(node)]
         for path, tree in TREES.items():
             taken = {name for _, name in imported(tree)} | {node.name for node in classes_in(tree)}
             taken |= {node.name for node in tree.body if isinstance(node, ast.FunctionDef)}
@@ -186,14 +196,18 @@ class LanguageTest(unittest.TestCase):
                     self.assertNotIn(name, BARRED_NAMES)
                     self.assertRegex(name, r"^(_|_?[A-Za-z][A-Za-z0-9_]*)$")
             for node in ast.walk(tree):
-                if isinstance(node, ast.Name) and isinstance(node.ctx, ast.Load) and hasattr(builtins, node.id):
+                known = isinstance(node, ast.Name) and isinstance(node.ctx, ast.Load) and hasattr(builtins, node.id)
+                if known and node not in fine:
                     self.assertIn(node.id, BUILTINS, f"{path.name}:{node.lineno}")
         for name in own:
             self.assertTrue(name.startswith("__") or not hasattr(builtins, name), name)
             self.assertNotIn(name, BARRED_NAMES)
 
     def test_words_and_texts(self):
+        fine = [node.left.func for tree in TREES.values() for node in ast.walk(tree) if is_class_test(node)]
         for place, node in self.each((ast.Name, ast.Attribute, ast.arg)):
+            if node in fine:
+                continue
             word = getattr(node, "id", None) or getattr(node, "attr", None) or getattr(node, "arg", None)
             self.assertNotIn(word, BARRED_WORDS, place)
             self.assertFalse(re.search("dataclass|overload|contextmanager|_wall|_WallAttr", word), place)
@@ -223,7 +237,7 @@ class LanguageTest(unittest.TestCase):
 
     def test_is_stands_beside_none_true_and_false(self):
         for place, node in self.each(ast.Compare):
-            if any(isinstance(sign, (ast.Is, ast.IsNot)) for sign in node.ops):
+            if not is_class_test(node) and any(isinstance(sign, (ast.Is, ast.IsNot)) for sign in node.ops):
                 self.assertIsInstance(node.comparators[0], ast.Constant, place)
 
     def test_sets_are_measured_or_sorted_at_once(self):

@@ -259,6 +259,47 @@ class SizesTest(unittest.TestCase):
         self.assertEqual(who_has(SCHEMA, rows, ("group", 1), "member"), ([("user", 2 * k) for k in range(2000)], []))
         self.assertEqual(len(named_users(SCHEMA, rows)), 2000)
 
+    def test_a_thing_that_reads_a_thousand_others_by_two_ways(self):
+        entries = (("up", ("links", ("doc",))), ("own", ONE), ("low", ("either", (("same", "own"), ("through", "up", "low")))),
+                   ("ban", ("either", (ONE, ("through", "up", "ban")))),
+                   ("see", ("both", (("through", "up", "low"), ("through", "up", "ban")))))
+        schema = schema_with(*entries)
+        rows = [(("doc", 0), "up", ("one", ("doc", k))) for k in range(1, 1000)]
+        rows += [gives(ANN, ("doc", k)) for k in range(1, 1000)]
+        self.assertIs(check(schema, rows, ("doc", 0), "see", ANN), False)
+        self.assertEqual(who_has(schema, rows, ("doc", 0), "see"), ([], []))
+        rows.append(gives(ANN, ("doc", 500), "ban"))
+        self.assertIs(check(schema, rows, ("doc", 0), "see", ANN), True)
+        self.assertEqual(who_has(schema, rows, ("doc", 0), "see"), ([ANN], []))
+        back = rows[:900] + [(("doc", k), "up", ("one", ("doc", 0))) for k in range(1, 900)]
+        back += [gives(ANN, ("doc", 5)), gives(ANN, ("doc", 7), "ban")]
+        self.assertEqual(len(rights_of(schema, back, ANN)), 1 + 3 * 900)
+        self.assertEqual(len(rights_of(schema, back[:-1], ANN)), 1 + 900)
+
+    def test_as_many_levels_as_there_can_be(self):
+        kinds, names = "abcde", ("ra", "rb", "rc", "rd", "re", "rf")
+        schema, rows, ahead = [("user", ())], [], None
+        for kind in kinds:
+            entries = []
+            for name in names:
+                same = ("same", name[0] + chr(ord(name[1]) - 1))
+                rule = ("but", ONE, ("both", (("both", (("both", (("both", (same, same)), same)), same)), same)))
+                if name == "ra":
+                    rule = ("direct", (("one", "user"),) + ((("who",) + ahead,) if ahead else ()))
+                    rows.append(((kind, 1), name, ("who", (ahead[0], 1), ahead[1]) if ahead else ("one", ANN)))
+                else:
+                    rows.append(((kind, 1), name, ("one", ANN)))
+                entries.append((name, rule))
+                ahead = (kind, name)
+            schema.append((kind, tuple(entries)))
+        schema = tuple(schema)
+        # Each right but the first ones of the kinds is had just if the one ahead of it is not.
+        had = {"a": "ra rc re", "b": "rb rd rf", "c": "ra rc re", "d": "rb rd rf", "e": "ra rc re"}
+        expected = [((kind, 1), name) for kind in kinds for name in had[kind].split()]
+        self.assertEqual(rights_of(schema, rows, ANN), expected)
+        self.assertIs(check(schema, rows, ("e", 1), "rf", ANN), False)
+        self.assertEqual(who_has(schema, rows, ("e", 1), "re"), ([ANN], []))
+
     def test_the_greatest_rules(self):
         def full(depth, k):
             if depth == 1:
