@@ -20,6 +20,31 @@ INTERFACE = {
         "check_state": "schema state", "check_row": "schema row", "check": "schema state thing relation user",
         "who_has": "schema state thing relation", "rights_of": "schema state user", "named_users": "schema state",
     },
+    "ranks": {
+        "check_within": "schema state thing relation user depth",
+        "depth_needed": "schema state thing relation user", "never_told": "schema state user",
+        "calls_within": "schema state thing relation depth", "rank": "schema state thing relation user",
+    },
+    "papers": {
+        "judge": "schema state user paper", "paper_for": "schema state thing relation user",
+        "trimmed": "schema state user paper", "weight": "schema state thing relation user",
+        "ways": "schema state thing relation user rounds",
+    },
+    "expansions": {
+        "expand": "schema state thing relation", "unfold": "schema state thing relation", "is_in": "tree user",
+        "places": "tree user", "pruned": "tree", "listed": "schema state thing relation",
+        "things": "schema state user kind relation", "page": "schema state user kind relation size after",
+        "compared": "schema state thing relation other other_relation",
+    },
+    "histories": {
+        "snapshot": "schema state history token", "spans": "schema state history thing relation user",
+        "answers": "schema state history kept token thing relation user",
+        "sure_from": "schema state history kept thing relation user",
+        "leaks": "schema state history kept token first last thing relation user",
+        "closed_by": "schema state history kept first last thing relation user",
+        "watch": "schema state history token kinds", "came_and_went": "schema state history one other user",
+        "session": "schema state history kept reads",
+    },
 }
 
 
