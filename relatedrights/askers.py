@@ -27,8 +27,19 @@ class Asker:
 
     def has(self, thing, relation):
         """Return whether the user has a right to a thing."""
-        known = self.had.get((thing, relation))
-        return self.find_out((thing, relation)) if known is None else known
+        node = (thing, relation)
+        known = self.had.get(node)
+        if known is not None:
+            return known
+        plan = self.plans.plan(thing[0], relation)
+        if plan[0] != "direct" and plan[0] != "never":
+            return self.find_out(node)
+        self.had[node] = self.holds(plan, thing, node)
+        return self.had[node]
+
+    def things_seen(self):
+        """Return the things whose rows the answers so far rest on, as a dict of True."""
+        return {thing: True for thing, _ in self.had}
 
     def find_out(self, root):
         """Return whether the user has a right of which nothing is known yet."""

@@ -108,6 +108,8 @@ class Holders:
 
     def layers(self):
         """Return the nodes of each level, in their order."""
+        if not any(self.tables.taken):
+            return [self.order]
         found = {}
         for node in self.order:
             found.setdefault(self.tables.level(node[0][0], node[1]), []).append(node)

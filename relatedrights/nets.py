@@ -53,7 +53,7 @@ class Net:
         """Return for each leaf of the rule of a node how many different subjects of rows tell the user."""
         thing, relation = node
         subjects = self.index.plain(thing[0], relation).get(thing, {})
-        told = (("one", user) in subjects) + (("all", user[0]) in subjects)
+        told = len([subject for subject in (("one", user), ("all", user[0])) if subject in subjects])
         leaves, _ = self.tables.leaves_by(thing[0], relation)
         return [told if leaf[0] == "direct" else 0 for leaf in leaves]
 

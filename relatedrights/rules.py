@@ -76,18 +76,20 @@ class Reader:
 
     def read_part(self, part, levels):
         """Return the same for a part that may be so deep."""
-        if not isinstance(part, tuple) or not 2 <= len(part) <= 3 or not isinstance(part[0], str):
+        if not isinstance(part, tuple):
             return WRONG
-        word = part[0]
         if len(part) == 3:
+            word, first, second = part
             if word == "through":
-                return self.read_through(part[1], part[2])
+                return self.read_through(first, second)
             if word != "but" or levels == 1:
                 return WRONG
-            taken = self.read_part(part[2], levels - 1)
+            taken = self.read_part(second, levels - 1)
             self.taken |= taken
-            return taken | self.read_part(part[1], levels - 1)
-        inner = part[1]
+            return taken | self.read_part(first, levels - 1)
+        if len(part) != 2:
+            return WRONG
+        word, inner = part
         if word == "same":
             return self.own_bits.get(inner, WRONG) if isinstance(inner, str) else WRONG
         if word == "direct":
@@ -120,19 +122,21 @@ class Reader:
         for form in forms:
             if not isinstance(form, tuple) or not 2 <= len(form) <= 3:
                 return WRONG
-            if not isinstance(form[0], str) or not isinstance(form[1], str) or form[1] not in self.kinds:
+            word = form[0]
+            kind = form[1]
+            if not isinstance(kind, str) or kind not in self.kinds:
                 return WRONG
             if len(form) == 3:
-                if form[0] != "who" or not isinstance(form[2], str):
+                if word != "who" or not isinstance(form[2], str):
                     return WRONG
-                named |= self.bits[form[1]].get(form[2], WRONG)
+                named |= self.bits[kind].get(form[2], WRONG)
                 rights[form[1:]] = True
-            elif self.kinds[form[1]]:
+            elif self.kinds[kind]:
                 return WRONG
-            elif form[0] == "one":
-                ones[form[1]] = True
-            elif form[0] == "all":
-                alls[form[1]] = True
+            elif word == "one":
+                ones[kind] = True
+            elif word == "all":
+                alls[kind] = True
             else:
                 return WRONG
         return named if len(ones) + len(alls) + len(rights) == len(forms) else WRONG

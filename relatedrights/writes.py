@@ -73,9 +73,8 @@ def truths_from(tables, index, history, start, node, user):
     found = [asker.has(node[0], node[1])]
     for write in history[start:]:
         changes = written(index, write)
-        # Rows of other things than those that were looked at tell nothing of the answer.
-        looked_at = {thing: True for thing, _ in asker.had} if changes else {}
-        if any([row[0] in looked_at for _, row in changes]):
+        seen = asker.things_seen() if changes else {}
+        if any([row[0] in seen for _, row in changes]):
             asker = Asker(tables, index, user)
         found.append(asker.has(node[0], node[1]))
     return found

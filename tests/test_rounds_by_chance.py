@@ -108,8 +108,15 @@ class PapersByChanceTest(unittest.TestCase):
                     self.assertEqual(judge(schema, state, user, list(other)), expected)
                     wrong += expected is not None
                     fine += expected is None
+                    if expected is None:
+                        self.shows_what_is_so(schema, state, user, other)
         self.assertGreater(wrong, 500)
         self.assertGreater(fine, 500)
+
+    def shows_what_is_so(self, schema, state, user, paper):
+        for step in paper:
+            for node in [step[1:3]] if step[0] == "has" else [entry[:2] for entry in step[1]]:
+                self.assertIs(check(schema, state, *node, user), step[0] == "has")
 
     def spoilt(self, chance, paper, values):
         word = chance.choice(["drop", "swap", "twice", "value", "value", "value"])
