@@ -118,7 +118,8 @@ class Reader:
         if self.forms is not None or not is_tuple(forms, 1, MOST_FORMS):
             return WRONG
         named = 0
-        ones, alls, rights = self.forms = ({}, {}, {})
+        self.forms = ({}, {}, {})
+        ones, alls, rights = self.forms
         for form in forms:
             if not isinstance(form, tuple) or not 2 <= len(form) <= 3:
                 return WRONG

@@ -132,6 +132,25 @@ class ValuesTest(unittest.TestCase):
             self.assertEqual(len(never_told(SEE, ring, BOB)), many)
 
 
+    def test_hundreds_of_documents_each_linked_to_the_next_one(self):
+        schema = schema_with(("up", ("links", ("doc",))), ("own", ONE), ("ban", ONE),
+                             ("see", ("but", ("either", (("same", "own"), ("through", "up", "see"))), ("same", "ban"))))
+        many = 700
+        chain = [(("doc", k), "up", ("one", ("doc", k + 1))) for k in range(1, many)] + [gives(ANN, many, "own")]
+        for state, last in ((chain, "no"), (chain + [(("doc", many), "up", ("one", DOC))], "deep")):
+            self.assertEqual(check_within(schema, state, DOC, "see", ANN, many), "deep")
+            self.assertEqual(check_within(schema, state, DOC, "see", ANN, many + 1), "yes")
+            self.assertEqual(depth_needed(schema, state, DOC, "see", ANN), many + 1)
+            self.assertEqual(rank(schema, state, DOC, "see", ANN), many + 1)
+            self.assertEqual(check_within(schema, state, DOC, "see", BOB, GREAT), last)
+            self.assertEqual(len(never_told(schema, state, BOB)), many if last == "deep" else 0)
+            self.assertEqual(calls_within(schema, state, DOC, "see", 100), 1 + 3 * 100)
+        banned = chain + [gives(ANN, 350, "ban")]
+        self.assertEqual(depth_needed(schema, banned, DOC, "see", ANN), 351)
+        self.assertIsNone(rank(schema, banned, DOC, "see", ANN))
+        self.assertEqual(rank(schema, banned, ("doc", 351), "see", ANN), many - 349)
+
+
 class CallsTest(unittest.TestCase):
     def test_each_place_of_a_rule_counts(self):
         schema = schema_with(
