@@ -122,9 +122,9 @@ class Index:
         """Return whether a row is there."""
         return row[2] in self.shelf_of(row).get(row[0], {})
 
-    def put(self, row):
-        """Put a row in, if it is not there."""
-        self.shelf_of(row).setdefault(row[0], {})[row[2]] = True
+    def put(self, row, there=True):
+        """Put a row in, if it is not there; all but masks [masks.py] ask for nothing but whether it is."""
+        self.shelf_of(row).setdefault(row[0], {})[row[2]] = there
 
     def take(self, row):
         """Take a row out, if it is there."""

@@ -166,6 +166,11 @@ def leaves_of(rule):
     return found
 
 
+def has_but(rule):
+    """Return whether a but stands in a rule."""
+    return rule[0] == "but" or any([has_but(part) for part in parts_of(rule)])
+
+
 def shape_of(rule, places):
     """Return a rule as nested tuples (word, part, part ..) with the numbers of its leaves, by {leaf: number}."""
     parts = parts_of(rule)

@@ -161,6 +161,11 @@ def require_buts(tables):
                 raise CircularBut(kind, relation)
 
 
+def is_right(tables, kind, relation):
+    """Return whether any two objects are a kind that is not bare and a right of it."""
+    return is_thing_kind(tables.kinds, kind) and isinstance(relation, str) and relation in tables.bits[kind]
+
+
 def require_thing_kind(tables, kind):
     """Raise InvalidKind for any object that is not a kind that is not bare."""
     if not is_thing_kind(tables.kinds, kind):

@@ -102,3 +102,81 @@ def some_state(chance, schema, rows, many):
     """A list of about so many rows, over so many things of each kind."""
     made = [some_row(chance, schema, many) for _ in range(rows)]
     return [row for row in made if row is not None]
+
+
+def lively_schema(chance, buts=True):
+    """A schema in which many rights come about: several links, groups by groups, few names, also a but."""
+    kinds = KINDS[:chance.choice([1, 1, 2, 2, 3])]
+    names = NAMES[:chance.randint(2, 3)]
+    rows = [("user", ())] + [("bot", ())] * chance.choice([0, 0, 1])
+    for kind in kinds:
+        links = [(link, tuple(chance.sample(kinds, chance.randint(1, len(kinds)))))
+                 for link in ("up", "in")[:chance.randint(0, 2)]]
+        entries = [(link, ("links", far)) for link, far in links]
+        for k, name in enumerate(names):
+            # What a right names stands behind it everywhere, or is it itself, so no but is circular.
+            entries.append((name, lively_rule(chance, kinds, links, names if not buts else names[k:], names[k + 1:], buts)))
+        chance.shuffle(entries)
+        rows.append((kind, tuple(entries)))
+    chance.shuffle(rows)
+    return tuple(rows)
+
+
+def lively_rule(chance, kinds, links, first, second, buts):
+    """A rule that names some names anywhere, and others in the second part of a but."""
+    parts = [("through", link, chance.choice(first)) for link, _ in links] + [("same", chance.choice(first))]
+    parts = chance.sample(parts, chance.choice([0, 1, 1, min(2, len(parts))]))
+    if chance.random() < 0.85 or not parts:
+        forms = [("one", "user")] * 3 + [("all", "user")] + [("who", far, chance.choice(first)) for far in kinds]
+        parts.append(("direct", tuple(dict.fromkeys(chance.sample(forms, chance.randint(1, 4))))))
+    rule = parts[0]
+    if len(parts) > 1:
+        rule = (chance.choice(["either", "either", "either", "both"]), tuple(parts))
+    if buts and second and chance.random() < 0.5:
+        rule = ("but", rule, ("same", chance.choice(second)))
+    return rule
+
+
+def lively_state(chance, schema, rows, many):
+    """A list of at most so many rows, most of which tell one of three users."""
+    made = []
+    for row in some_state(chance, schema, rows, many):
+        rule = dict(dict(schema)[row[0][0]])[row[1]]
+        if rule[0] != "links" and ("one", "user") in direct_forms(rule) and chance.random() < 0.5:
+            row = (row[0], row[1], ("one", ("user", chance.randrange(3))))
+        made.append(row)
+    return made
+
+
+def without_buts(schema):
+    """A schema with an either in the place of each but."""
+    return tuple((kind, tuple((name, either_rule(rule)) for name, rule in entries)) for kind, entries in schema)
+
+
+def either_rule(rule):
+    if rule[0] == "but":
+        return ("either", (either_rule(rule[1]), either_rule(rule[2])))
+    if rule[0] in ("either", "both"):
+        return (rule[0], tuple(either_rule(part) for part in rule[1]))
+    return rule
+
+
+def some_rules(chance, schema, liked=()):
+    """Rules of writing, for most of what can have rows; they mostly ask for rights (kind, name) that are liked."""
+    found = []
+    for kind, entries in schema:
+        names = [name for name, rule in entries if rule[0] != "links"]
+        if names:
+            names += [None] + [name for far, name in liked if far == kind] * 4
+            for name, rule in entries:
+                if (rule[0] == "links" or direct_forms(rule)) and chance.random() < 0.9:
+                    found.append((kind, name, chance.choice(names), chance.choice(names)))
+    chance.shuffle(found)
+    return found
+
+
+def one_of_both(chance):
+    """A schema of the one sort or of the other one, and what makes states for it."""
+    if chance.random() < 0.2:
+        return some_schema(chance), some_state
+    return lively_schema(chance), lively_state

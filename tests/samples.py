@@ -3,6 +3,7 @@
 import sys
 
 from relatedrights import errors
+from relatedrights.live import Live
 
 ONE = ("direct", (("one", "user"),))
 ANY = ("direct", (("one", "user"), ("all", "user")))
@@ -52,6 +53,7 @@ def odd_values():
         object(), object, int, tuple, type, len, "user".upper, iter([]), (k for k in []), lambda: 0, Ellipsis,
         NotImplemented, ValueError("user"), sys, zip(), map(int, []), enumerate([]), reversed([]), property(),
         deep_tuple(), deep_list(), errors.InvalidUser([]), errors.RightsError, errors.RightsError("user"),
+        Live(SCHEMA), Live,
     ]
 
 

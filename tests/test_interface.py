@@ -45,6 +45,57 @@ INTERFACE = {
         "watch": "schema state history token kinds", "came_and_went": "schema state history one other user",
         "session": "schema state history kept reads",
     },
+    "needless": {
+        "agree": "schema state other concerns", "difference": "schema state other concerns",
+        "spare_rows": "schema state concerns", "needed_for": "schema state concerns row",
+        "thinned": "schema state concerns", "is_thin": "schema state concerns",
+        "greatest_sets": "schema state concerns rows", "count_sets": "schema state concerns rows",
+    },
+    "changes": {
+        "switched": "schema state switches change", "least_change": "schema state switches wishes",
+        "minimal_changes": "schema state switches wishes", "effects": "schema state switches change concerns",
+        "quiet_change": "schema state switches wishes concerns", "why_not": "schema state switches wishes",
+        "judge_change": "schema state switches wishes told",
+    },
+    "profiles": {
+        "profiles": "schema bare kind", "state_for": "schema bare kind profile", "can": "schema bare kind having lacking",
+        "always": "schema bare kind given wanted", "never": "schema bare", "soundest": "schema bare",
+        "is_sound": "schema bare value", "profile_of": "schema bare configuration",
+    },
+    "alike": {
+        "alike": "schema other", "parting": "schema other", "without_part": "schema kind relation path",
+        "spare_parts": "schema", "rows_lost": "schema other state", "rights_changed": "schema other state",
+    },
+    "writers": {
+        "may": "schema rules state user change", "may_write": "schema rules state user thing",
+        "refused_at": "schema rules state steps", "behind": "schema rules state steps",
+        "can_come": "schema rules state company thing relation user",
+        "rounds_to": "schema rules state company thing relation user",
+        "way_to": "schema rules state company thing relation user",
+        "shows_way": "schema rules state company thing relation user steps", "gains": "schema rules state company user",
+        "fewest": "schema rules state company rows thing relation user",
+        "can_grow": "schema rules kind bare profile relation", "keepers": "schema rules kind bare relation",
+        "growing": "schema rules kind bare profile relation",
+    },
+    "merges": {
+        "clean_orders": "schema rules state one other", "grid": "schema rules state one other",
+        "clean_order": "schema rules state one other", "first_refusal": "schema rules state one other",
+        "last_state": "schema rules state one other", "clashes": "schema rules state one other",
+        "outcomes": "schema rules state one other",
+        "rights_behind": "schema rules state one other thing relation user",
+    },
+    "texts": {
+        "schema_text": "schema", "read_schema": "text", "rows_text": "schema state", "read_rows": "schema text",
+        "journal_text": "live", "read_journal": "schema rules text",
+    },
+    "live": {"Live": None},
+}
+
+# The methods of Live, with what stands in the place of arguments that are not told.
+LIVE = {
+    "__init__": "self schema rules=()", "do": "self user change", "latest": "self", "content": "self token=None",
+    "check": "self thing relation user token=None", "answers": "self thing relation user token", "since": "self token",
+    "forget": "self token", "oldest": "self", "fork": "self", "__eq__": "self other",
 }
 
 
@@ -65,6 +116,13 @@ class InterfaceTest(unittest.TestCase):
             tree = ast.parse((ROOT / "relatedrights" / (module + ".py")).read_text(encoding="utf-8"))
             defined = [node.name for node in tree.body if isinstance(node, (ast.FunctionDef, ast.ClassDef))]
             self.assertEqual([name for name in entries if name not in defined], [])
+
+    def test_the_methods_of_live(self):
+        tree = ast.parse((ROOT / "relatedrights" / "live.py").read_text(encoding="utf-8"))
+        body = [node for node in tree.body if isinstance(node, ast.ClassDef) and node.name == "Live"][0].body
+        found = {node.name: ast.unparse(node.args) for node in body if isinstance(node, ast.FunctionDef)}
+        for name, arguments in LIVE.items():
+            self.assertEqual(found[name].replace(", ", " "), arguments, name)
 
 
 if __name__ == "__main__":

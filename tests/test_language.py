@@ -37,7 +37,8 @@ BARRED_NODES = (
     ast.AsyncFunctionDef, ast.AsyncFor, ast.AsyncWith, ast.Await, ast.Yield, ast.YieldFrom, ast.GeneratorExp,
     ast.Global, ast.Div, ast.AnnAssign,
 )
-AT_ONCE = ("zip", "enumerate", "reversed", "range", "map")
+PRODUCTS = ("product", "combinations", "permutations")
+AT_ONCE = ("zip", "enumerate", "reversed", "range", "map") + PRODUCTS
 VIEWS = ("items", "keys", "values")
 TAKERS = ("list", "tuple", "dict", "sorted", "sum", "any", "all", "enumerate", "zip", "max", "min")
 
@@ -257,8 +258,9 @@ class LanguageTest(unittest.TestCase):
             for node in ast.walk(tree):
                 if isinstance(node, (ast.For, ast.comprehension)):
                     fine.append(id(node.iter))
-                if isinstance(node, ast.Call) and isinstance(node.func, ast.Name) and node.func.id in TAKERS:
-                    fine.extend([id(argument) for argument in node.args])
+                if isinstance(node, ast.Call) and isinstance(node.func, ast.Name):
+                    if node.func.id in TAKERS or (node.func.id in PRODUCTS and called(node.args[0]) in ("range", "zip")):
+                        fine.extend([id(argument) for argument in node.args])
             for node in ast.walk(tree):
                 self.assertTrue(not is_view(node) or id(node) in fine, f"{path.name}:{getattr(node, 'lineno', 0)}")
 
