@@ -16,6 +16,7 @@ class Asker:
 
     def __init__(self, tables, index, user):
         self.tables = tables
+        self.index = index
         self.plans = Plans(tables, index)
         self.own_subject = ("one", user)
         self.kind_subject = ("all", user[0])
@@ -36,6 +37,11 @@ class Asker:
             return self.find_out(node)
         self.had[node] = self.holds(plan, thing, node)
         return self.had[node]
+
+    def tells_outright(self, thing, relation):
+        """Return whether a row of a right to a thing tells the user, by itself or by its kind."""
+        subjects = self.index.plain(thing[0], relation).get(thing, NOTHING)
+        return self.own_subject in subjects or self.kind_subject in subjects
 
     def things_seen(self):
         """Return the things whose rows the answers so far rest on, as a dict of True."""

@@ -59,8 +59,8 @@ class Configurations:
             atoms = self.atoms[kind]
             for (side, atom), half in zip(atoms, half_patterns(len(atoms))):
                 self.held[side].setdefault(kind, {})[atom] = half
-            for tables, held, rights in zip(self.sides, self.held, self.having):
-                rights[kind] = rights_by(tables, kind, held.setdefault(kind, {}))
+            for side, tables in enumerate(self.sides):
+                self.having[side][kind] = rights_by(tables, kind, self.held[side].setdefault(kind, {}))
         every = self.everything()
         for kind in self.kinds:
             # What atoms need that rest on rows of the same relation can not be told one by one.

@@ -7,7 +7,7 @@ from relatedrights.rows import index_of, is_thing, require_thing, require_user
 from relatedrights.rules import parts_of
 from relatedrights.tables import require_right, require_thing_kind, tables_of
 from relatedrights.trees import (
-    MOST_PLACES, MOST_TREES, folded, is_named_pair, names_user, trees_in, with_parts, without_nobody,
+    MOST_PLACES, MOST_TREES, folded, is_named_pair, path_of, trees_in, with_parts, without_nobody,
 )
 from relatedrights.words import is_number
 
@@ -52,8 +52,8 @@ def unfold(schema, state, thing, relation):
 class Unfolder:
     """Unfolds rights; a NODE is a right to a thing.
 
-    met: what was come to, in reading order, as tuples (tree, number of its parts), where the parts of the
-    tree itself do not count. around: the nodes of which an open stands around the next place.
+    met: what was come to, in reading order, without its parts; many: how many parts each of these has. around:
+    the nodes of which an open stands around the next place.
     """
 
     def __init__(self, tables, index):
@@ -62,6 +62,7 @@ class Unfolder:
         self.met = []
         self.around = {}
         self.trees = {}
+        self.many = []
 
     def unfolded(self, root):
         """Return the unfolded tree of a node, or raise TooLarge."""
@@ -78,11 +79,12 @@ class Unfolder:
                 tree, parts = self.opened(tree[1:])
             else:
                 parts = tree[1:] if tree[0] == "but" else tree[1] if tree[0] != "set" else ()
-            self.met.append((tree, len(parts)))
+            self.met.append(tree)
+            self.many.append(len(parts))
             if tree[0] == "open":
                 waiting.append((("close", tree[1], tree[2]), 0))
             waiting.extend([(part, depth + 1) for part in reversed(parts)])
-        return folded(self.met, with_parts)
+        return folded(self.met, self.many, with_parts)
 
     def opened(self, node):
         """Return what stands in the place of the users of a node, without its parts, and these."""
@@ -97,30 +99,40 @@ class Unfolder:
 
 def is_in(tree, user):
     """Return whether a user is one of those in a whole tree [5.3]."""
-    rows = trees_in(tree)
+    rows, many = trees_in(tree)
     require_named_pair(user)
+    own_subject = ("one", user)
+    kind_subject = ("all", user[0])
 
     def has_user(one, truths):
         """Return whether the user is in a tree, by whether it is in its parts."""
         if one[0] == "set":
-            return names_user(one[1], user)
+            return own_subject in one[1] or kind_subject in one[1]
         if one[0] == "but":
             return truths[0] and not truths[1]
         return all(truths) if one[0] == "both" else any(truths)
 
-    return folded([(one, many) for _, one, many in rows], has_user)
+    return folded([row[0] for row in rows], many, has_user)
 
 
 def places(tree, user):
     """Return the paths of all sets in a whole tree whose subjects name a user, ascending [5.3]."""
-    rows = trees_in(tree)
+    rows, _ = trees_in(tree)
     require_named_pair(user)
-    return [path for path, one, _ in rows if one[0] == "set" and names_user(one[1], user)]
+    own_subject = ("one", user)
+    kind_subject = ("all", user[0])
+    found = []
+    for k, row in enumerate(rows):
+        word = row[0][0]
+        if word == "set" and (own_subject in row[0][1] or kind_subject in row[0][1]):
+            found.append(path_of(rows, k))
+    return found
 
 
 def pruned(tree):
     """Return a whole tree without what brings nobody, or None if nothing is left [5.3]."""
-    return folded([(one, many) for _, one, many in trees_in(tree)], without_nobody)
+    rows, many = trees_in(tree)
+    return folded([row[0] for row in rows], many, without_nobody)
 
 
 def require_named_pair(user):

@@ -1,10 +1,10 @@
 """Histories: who has which rights in the snapshots that writes make of a state."""
 
-from relatedrights.askers import Asker
 from relatedrights.errors import InvalidKind, InvalidNumber, InvalidToken, Mismatch
 from relatedrights.rows import index_of, is_thing, is_user, require_thing, require_user
+from relatedrights.snapshots import Snapshots, changes_for, rights_changed_between
 from relatedrights.tables import require_right, require_thing_kind, tables_of
-from relatedrights.writes import forward, is_token, require_history, require_token, truths_from, written
+from relatedrights.writes import forward, is_token, require_history, require_token, rows_at, told_changes
 
 MOST_READS = 100
 
@@ -15,8 +15,7 @@ def snapshot(schema, state, history, token):
     index = index_of(tables, state)
     require_history(tables, history)
     require_token(history, token)
-    forward(index, history, 0, token)
-    return index.rows()
+    return sorted([row for row, there in rows_at(state, history, token).items() if there])
 
 
 def spans(schema, state, history, thing, relation, user):
@@ -26,7 +25,7 @@ def spans(schema, state, history, thing, relation, user):
     require_history(tables, history)
     require_question(tables, thing, relation, user)
     found = []
-    for k, truth in enumerate(truths_from(tables, index, history, 0, (thing, relation), user)):
+    for k, truth in enumerate(Snapshots(tables, index, history, {user: True}).truths((thing, relation), user)):
         if truth and found and found[-1][1] == k - 1:
             found[-1] = (found[-1][0], k)
         elif truth:
@@ -42,7 +41,8 @@ def answers(schema, state, history, kept, token, thing, relation, user):
     require_kept(history, kept)
     require_token(history, token)
     require_question(tables, thing, relation, user)
-    return sorted(set(truths_from(tables, index, history, max(kept, token), (thing, relation), user)))
+    truths = Snapshots(tables, index, history, {user: True}).truths((thing, relation), user)
+    return sorted(set(truths[max(kept, token):]))
 
 
 def sure_from(schema, state, history, kept, thing, relation, user):
@@ -52,9 +52,9 @@ def sure_from(schema, state, history, kept, thing, relation, user):
     require_history(tables, history)
     require_kept(history, kept)
     require_question(tables, thing, relation, user)
-    truths = truths_from(tables, index, history, kept, (thing, relation), user)
-    others = [k for k, truth in enumerate(truths) if truth != truths[-1]]
-    return (kept + others[-1] + 1 if others else 0), truths[-1]
+    truths = Snapshots(tables, index, history, {user: True}).truths((thing, relation), user)
+    others = [k for k, truth in enumerate(truths) if truth != truths[-1] and k >= kept]
+    return (others[-1] + 1 if others else 0), truths[-1]
 
 
 def leaks(schema, state, history, kept, token, first, last, thing, relation, user):
@@ -66,7 +66,7 @@ def leaks(schema, state, history, kept, token, first, last, thing, relation, use
     require_token(history, token)
     require_stretch(history, first, last)
     require_question(tables, thing, relation, user)
-    truths = truths_from(tables, index, history, 0, (thing, relation), user)
+    truths = Snapshots(tables, index, history, {user: True}).truths((thing, relation), user)
     return leaking(truths, max(kept, token), first, last)
 
 
@@ -78,7 +78,8 @@ def closed_by(schema, state, history, kept, first, last, thing, relation, user):
     require_kept(history, kept)
     require_stretch(history, first, last)
     require_question(tables, thing, relation, user)
-    found = leaking(truths_from(tables, index, history, 0, (thing, relation), user), kept, first, last)
+    truths = Snapshots(tables, index, history, {user: True}).truths((thing, relation), user)
+    found = leaking(truths, kept, first, last)
     if not found:
         return 0
     return found[-1] + 1 if found[-1] < len(history) else None
@@ -101,12 +102,11 @@ def watch(schema, state, history, token, kinds):
         raise InvalidKind(kinds)
     for kind in kinds:
         require_thing_kind(tables, kind)
-    forward(index, history, 0, token)
     found = []
-    for k in range(token, len(history)):
-        changes = [change for change in written(index, history[k]) if change[1][0][0] in kinds]
+    for k, told in enumerate(told_changes(state, history, token)):
+        changes = [change for change in told if change[1][0][0] in kinds]
         if changes:
-            found.append((k + 1, tuple(changes)))
+            found.append((token + k + 1, tuple(changes)))
     return found
 
 
@@ -120,20 +120,9 @@ def came_and_went(schema, state, history, one, other, user):
     require_user(tables, user)
     early = min(one, other)
     late = max(one, other)
-    forward(index, history, 0, early)
-    first = rights_in(tables, index, user)
-    forward(index, history, early, late)
-    second = rights_in(tables, index, user)
-    came = [node for node in second if node not in first]
-    went = [node for node in first if node not in second]
+    forward(index, changes_for(tables, history[:early], {user: True}))
+    came, went = rights_changed_between(tables, index, history[early:late], user)
     return (came, went) if one <= other else (went, came)
-
-
-def rights_in(tables, index, user):
-    """Return the rights (thing, relation) that a user has, as a dict of True in their order."""
-    asker = Asker(tables, index, user)
-    nodes = [(thing, name) for thing in index.things() for name in tables.bits[thing[0]]]
-    return {node: True for node in nodes if asker.has(node[0], node[1])}
 
 
 def session(schema, state, history, kept, reads):
@@ -146,26 +135,23 @@ def session(schema, state, history, kept, reads):
         raise Mismatch("reads")
     if not all([is_read(tables, history, read) for read in reads]):
         raise Mismatch("reads")
+    if not reads:
+        return []
+    snapshots = Snapshots(tables, index, history, {read[3]: True for read in reads})
+    truths = {}
     found = []
     at = 0
-    askers = {}
     for token, thing, relation, user, answer in reads:
-        least = max(kept, token, at)
-        while at < least or not answered(tables, index, askers, thing, relation, user, answer):
-            if at == len(history):
-                return None
-            written(index, history[at])
+        question = ((thing, relation), user)
+        if question not in truths:
+            truths[question] = snapshots.truths((thing, relation), user)
+        at = max(kept, token, at)
+        while at < len(truths[question]) and truths[question][at] != answer:
             at += 1
-            askers.clear()
+        if at == len(truths[question]):
+            return None
         found.append(at)
     return found
-
-
-def answered(tables, index, askers, thing, relation, user, answer):
-    """Return whether a snapshot, for which {user: its Asker} is kept, gives this answer to a read."""
-    if user not in askers:
-        askers[user] = Asker(tables, index, user)
-    return askers[user].has(thing, relation) == answer
 
 
 def is_read(tables, history, value):

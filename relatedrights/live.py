@@ -3,7 +3,7 @@
 from relatedrights.errors import InvalidToken
 from relatedrights.rows import Index, require_thing, require_user
 from relatedrights.rulings import Writing, require_change, rules_of
-from relatedrights.snapshots import truths_behind
+from relatedrights.snapshots import Snapshots
 from relatedrights.tables import require_right, tables_of
 
 
@@ -28,7 +28,7 @@ class Live:
         if user is not None:
             require_user(self.tables, user)
         require_change(self.tables, change)
-        fine = self.writing.changes(change) if user is None else self.writing.may(user, change)
+        fine = self.writing.alters(change) if user is None else self.writing.may(user, change)
         if fine:
             self.writing.do(change)
             self.log.append((user, change))
@@ -56,8 +56,8 @@ class Live:
         self.require_question(thing, relation, user)
         place = self.place_of(token, False)
         writes = [[change] for _, change in self.log[place:]]
-        index = self.new_writing(place).index
-        truths = truths_behind(self.tables, index, writes, (thing, relation), user)
+        snapshots = Snapshots(self.tables, self.new_writing(place).index, writes, {user: True})
+        truths = snapshots.truths((thing, relation), user)
         return [(token + k, truth) for k, truth in enumerate(truths) if k == 0 or truth != truths[k - 1]]
 
     def since(self, token):

@@ -16,6 +16,20 @@ def nodes_read(index, thing, relation, leaf):
     return [(subject[1], leaf[2]) for subject in index.plain(thing[0], leaf[1]).get(thing, {})]
 
 
+def holds_really(tables, asker, node, shape):
+    """Return whether a part of the shape of a node holds by what a user really has."""
+    if isinstance(shape, int):
+        thing, relation = node
+        leaf = tables.leaves_by(thing[0], relation)[0][shape]
+        if leaf[0] == "direct" and asker.tells_outright(thing, relation):
+            return True
+        return any([asker.has(other, name) for other, name in nodes_read(asker.index, thing, relation, leaf)])
+    truths = [holds_really(tables, asker, node, part) for part in shape[1:]]
+    if shape[0] == "but":
+        return truths[0] and not truths[1]
+    return all(truths) if shape[0] == "both" else any(truths)
+
+
 class Net:
     """Some nodes, and all that they lead to.
 
@@ -76,24 +90,13 @@ class UserNet:
         if isinstance(shape, int):
             return shape
         if shape[0] == "but":
-            return None if self.really(node, shape[2]) else self.without_buts(node, shape[1])
+            taken = holds_really(self.net.tables, self.asker, node, shape[2])
+            return None if taken else self.without_buts(node, shape[1])
         parts = [self.without_buts(node, part) for part in shape[1:]]
         left = [part for part in parts if part is not None]
         if not left or (shape[0] == "both" and len(left) < len(parts)):
             return None
         return (shape[0], *left)
-
-    def really(self, node, shape):
-        """Return whether a part of the shape of a node holds by what the user really has."""
-        if isinstance(shape, int):
-            if self.given[node][shape]:
-                return True
-            return any([self.asker.has(thing, relation) for thing, relation in self.net.reads[node][shape]])
-        if shape[0] == "but":
-            return self.really(node, shape[1]) and not self.really(node, shape[2])
-        if shape[0] == "both":
-            return all([self.really(node, part) for part in shape[1:]])
-        return any([self.really(node, part) for part in shape[1:]])
 
     def ranks(self):
         """Return {node: rank} for the nodes that the user has."""

@@ -2,11 +2,13 @@
 
 from heapq import heappop, heappush
 
+from relatedrights.descents import Descent
 from relatedrights.errors import InvalidNumber, Mismatch, TooLarge
 from relatedrights.nets import UserNet
 from relatedrights.proofs import Prover
 from relatedrights.rows import index_of, require_thing, require_user
 from relatedrights.steps import StepReader
+from relatedrights.sums import Counting, Weighing
 from relatedrights.tables import require_right, tables_of
 from relatedrights.words import is_number
 
@@ -98,7 +100,11 @@ def weight(schema, state, thing, relation, user):
     require_thing(tables, thing)
     require_right(tables, thing[0], relation)
     require_user(tables, user)
-    return weights(UserNet(tables, index, user, [(thing, relation)])).get((thing, relation))
+    node = (thing, relation)
+    descent = Descent(tables, index, user, Weighing(tables, index, user))
+    if descent.settle(node):
+        return descent.numbers[node]
+    return weights(UserNet(tables, index, user, [node])).get(node)
 
 
 def weights(user_net):
@@ -152,7 +158,13 @@ def ways(schema, state, thing, relation, user, rounds):
     if not is_number(rounds) or rounds > MOST_ROUNDS:
         raise InvalidNumber("rounds")
     limit = 10 ** 60
-    many = ways_within(UserNet(tables, index, user, [(thing, relation)]), rounds, limit).get((thing, relation), 0)
+    node = (thing, relation)
+    descent = Descent(tables, index, user, Counting(tables, index, user, limit))
+    many, needed = (0, rounds + 1)
+    if descent.settle(node):
+        many, needed = descent.numbers[node] or (0, 0)
+    if needed > rounds:
+        many = ways_within(UserNet(tables, index, user, [node]), rounds, limit).get(node, 0)
     if many == limit:
         raise TooLarge(MOST_FIGURES)
     return many

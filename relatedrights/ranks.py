@@ -1,9 +1,11 @@
 """Asking with a depth: what is told within so many steps, and in which round a right comes."""
 
+from relatedrights.descents import Descent
 from relatedrights.errors import InvalidNumber
 from relatedrights.nets import Net, UserNet, nodes_read
 from relatedrights.rows import index_of, require_thing, require_user
 from relatedrights.rules import leaves_of
+from relatedrights.sums import LARGE, Looking, Ranking, Telling
 from relatedrights.tables import require_right, tables_of
 from relatedrights.words import is_number
 
@@ -25,8 +27,8 @@ def check_within(schema, state, thing, relation, user, depth):
     require_user(tables, user)
     if not is_number(depth):
         raise InvalidNumber("depth")
-    value, least = told_at(tables, index, user, [(thing, relation)]).get((thing, relation), (DEEP, 0))
-    return WORDS[value] if least <= depth else WORDS[DEEP]
+    value, least = told_of(tables, index, user, (thing, relation))
+    return WORDS[value] if value != DEEP and least <= depth else WORDS[DEEP]
 
 
 def depth_needed(schema, state, thing, relation, user):
@@ -36,7 +38,7 @@ def depth_needed(schema, state, thing, relation, user):
     require_thing(tables, thing)
     require_right(tables, thing[0], relation)
     require_user(tables, user)
-    return told_at(tables, index, user, [(thing, relation)]).get((thing, relation), (DEEP, None))[1]
+    return told_of(tables, index, user, (thing, relation))[1]
 
 
 def never_told(schema, state, user):
@@ -45,8 +47,20 @@ def never_told(schema, state, user):
     index = index_of(tables, state)
     require_user(tables, user)
     nodes = [(thing, name) for thing in index.things() for name in tables.bits[thing[0]]]
+    if Descent(tables, index, user, Looking()).settle_all(nodes):
+        # What does not read itself is told at some depth.
+        return []
     told = told_at(tables, index, user, nodes)
     return [node for node in nodes if node not in told]
+
+
+def told_of(tables, index, user, node):
+    """Return the value of a node and the least depth that tells it, (DEEP, None) if none does."""
+    descent = Descent(tables, index, user, Telling())
+    if descent.settle(node):
+        number = descent.numbers[node]
+        return (YES, LARGE + 1 - number) if number > 0 else (NO, LARGE + 1 + number)
+    return told_at(tables, index, user, [node]).get(node, (DEEP, None))
 
 
 def told_at(tables, index, user, roots):
@@ -127,4 +141,8 @@ def rank(schema, state, thing, relation, user):
     require_thing(tables, thing)
     require_right(tables, thing[0], relation)
     require_user(tables, user)
-    return UserNet(tables, index, user, [(thing, relation)]).ranks().get((thing, relation))
+    node = (thing, relation)
+    descent = Descent(tables, index, user, Ranking(tables, index, user))
+    if descent.settle(node):
+        return descent.numbers[node]
+    return UserNet(tables, index, user, [node]).ranks().get(node)

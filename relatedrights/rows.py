@@ -104,6 +104,47 @@ class Index:
                 subjects[subject] = True
         return None
 
+    def fits(self, rows):
+        """Return whether any objects are all rows."""
+        forms = self.tables.forms
+        # The rows of a write are mostly alike, so what is as in the row ahead is not looked up again. No object in
+        # a row is equal to this index.
+        last_kind = last_relation = far_kind = self
+        for row in rows:
+            if not isinstance(row, tuple) or len(row) != 3:
+                return False
+            thing, relation, subject = row
+            if not isinstance(thing, tuple) or len(thing) != 2 or not isinstance(subject, tuple):
+                return False
+            kind, number = thing
+            if type(number) is not int or number < 0:
+                return False
+            if relation != last_relation or kind != last_kind:
+                if not isinstance(kind, str) or not isinstance(relation, str):
+                    return False
+                try:
+                    ones, alls, rights = forms[kind][relation]
+                except KeyError:
+                    return False
+                last_kind, last_relation, far_kind = kind, relation, self
+            if len(subject) == 2:
+                word, what = subject
+                if isinstance(what, tuple):
+                    if word != "one" or len(what) != 2:
+                        return False
+                    far, number = what
+                    if type(number) is not int or number < 0:
+                        return False
+                    if far != far_kind:
+                        if not isinstance(far, str) or far not in ones:
+                            return False
+                        far_kind = far
+                elif word != "all" or not isinstance(what, str) or what not in alls:
+                    return False
+            elif not tells_right(subject, rights):
+                return False
+        return True
+
     def plain(self, kind, relation):
         """Return {thing: {subject: True}} for the subjects of a relation that begin with "one" and "all"."""
         return self.shelves[kind][relation][3]
@@ -114,13 +155,12 @@ class Index:
 
     def shelf_of(self, row):
         """Return the part {thing: {subject: True}} of the index in which a row belongs."""
-        if row[2][0] == "who":
-            return self.whos(row[0][0], row[1])
-        return self.plain(row[0][0], row[1])
+        return self.shelves[row[0][0]][row[1]][4 if row[2][0] == "who" else 3]
 
     def has(self, row):
         """Return whether a row is there."""
-        return row[2] in self.shelf_of(row).get(row[0], {})
+        subjects = self.shelf_of(row).get(row[0])
+        return subjects is not None and row[2] in subjects
 
     def put(self, row, there=True):
         """Put a row in, if it is not there; all but masks [masks.py] ask for nothing but whether it is."""
@@ -134,6 +174,34 @@ class Index:
             del subjects[row[2]]
             if not subjects:
                 del shelf[row[0]]
+
+    def told_by(self, thing):
+        """Return the things that rows of a thing tell."""
+        found = []
+        for relation, (_, _, _, plain, whos) in self.shelves[thing[0]].items():
+            if thing in plain and relation in self.tables.links[thing[0]]:
+                found.extend([subject[1] for subject in plain[thing]])
+            if thing in whos:
+                found.extend([subject[1] for subject in whos[thing]])
+        return found
+
+    def readers_of(self, things):
+        """Return some things, and those whose rows tell one of them, directly or not, as a dict of True."""
+        tellers = {}
+        for kind in self.shelves:
+            for relation, (_, _, _, plain, whos) in self.shelves[kind].items():
+                for shelf in (plain, whos) if relation in self.tables.links[kind] else (whos,):
+                    for thing, subjects in shelf.items():
+                        for subject in subjects:
+                            tellers.setdefault(subject[1], []).append(thing)
+        found = {thing: True for thing in things}
+        waiting = list(found)
+        while waiting:
+            for teller in tellers.get(waiting.pop(), ()):
+                if teller not in found:
+                    found[teller] = True
+                    waiting.append(teller)
+        return found
 
     def rows(self):
         """Return all rows, each once, ascending."""

@@ -92,14 +92,14 @@ class Writing:
         self.index = index
         self.askers = {}
 
-    def changes(self, change):
+    def alters(self, change):
         """Return whether a change changes something now."""
         return self.index.has(change[1]) != (change[0] == "put")
 
     def may(self, user, change):
         """Return whether a user may do a change now."""
         right = right_for(self.rules, change)
-        return right is not None and self.changes(change) and self.has(change[1][0], right, user)
+        return right is not None and self.alters(change) and self.has(change[1][0], right, user)
 
     def has(self, thing, relation, user):
         """Return whether a user has a right to a thing now."""

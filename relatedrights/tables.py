@@ -9,18 +9,22 @@ from relatedrights.words import is_name, is_tuple
 MOST_KINDS = 6
 MOST_RELATIONS = 6
 
+# The tables of the schema that was read last.
+LAST = None
+
 
 class Tables:
     """What the rules of a schema tell; a set of rights is a number with a bit for each of them.
 
-    kinds: {kind: {relation: rule}}, in the order of the schema. By kind: bits, {right: the set of it
+    kinds: the schema as {kind: {relation: rule}}, in its order. By kind: bits, {right: the set of it
     alone}; links, {link: the kinds that it leads to}; forms, {relation: a tuple of the kinds that its rows
     tell by "one", of those by "all", and of the rights (kind, relation) by "who", each a dict of True}. By
     the place of a right in the schema: named, the set of the rights that it names, and taken, the set of
-    those that it names in the second part of a but.
+    those that it names in the second part of a but. history: the history that was read last, or None.
     """
 
-    def __init__(self, kinds):
+    def __init__(self, schema, kinds):
+        self.schema = schema
         self.kinds = kinds
         self.bits = {}
         self.links = {}
@@ -29,6 +33,7 @@ class Tables:
         self.taken = []
         self.ranking = None
         self.shapes = {}
+        self.history = None
         bit = 1
         for kind in kinds:
             bits = {}
@@ -127,9 +132,16 @@ class Tables:
 
 def tables_of(schema):
     """Return the tables of a schema, or raise an error of a schema."""
-    tables = Tables(kinds_of(schema))
+    global LAST
+    # Schemas are mostly asked for many times in a row, and reading one takes longer than most answers. It is
+    # made up of tuples and strings alone, so what is equal to it is the same schema.
+    last = LAST
+    if last is not None and isinstance(schema, tuple) and schema == last.schema:
+        return last
+    tables = Tables(schema, kinds_of(schema))
     tables.read_rules()
     require_buts(tables)
+    LAST = tables
     return tables
 
 
@@ -139,14 +151,20 @@ def kinds_of(schema):
         raise InvalidSchema(())
     kinds = {}
     for k, row in enumerate(schema):
-        if not is_tuple(row, 2, 2) or not is_name(row[0]) or row[0] in kinds or not is_tuple(row[1], 0, MOST_RELATIONS):
+        if not isinstance(row, tuple) or len(row) != 2:
+            raise InvalidSchema((k,))
+        kind, entries = row
+        if not is_name(kind) or kind in kinds or not isinstance(entries, tuple) or len(entries) > MOST_RELATIONS:
             raise InvalidSchema((k,))
         relations = {}
-        for r, entry in enumerate(row[1]):
-            if not is_tuple(entry, 2, 2) or not is_name(entry[0]) or entry[0] in relations:
+        for r, entry in enumerate(entries):
+            if not isinstance(entry, tuple) or len(entry) != 2:
                 raise InvalidSchema((k, r))
-            relations[entry[0]] = entry[1]
-        kinds[row[0]] = relations
+            name, rule = entry
+            if not is_name(name) or name in relations:
+                raise InvalidSchema((k, r))
+            relations[name] = rule
+        kinds[kind] = relations
     return kinds
 
 

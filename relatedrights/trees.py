@@ -4,80 +4,95 @@ A tree is taken apart and put together without recursion, for it may be nested w
 """
 
 from relatedrights.errors import InvalidTree
-from relatedrights.words import is_name, is_number
+from relatedrights.words import is_name, is_pair
 
 MOST_TREES = 3000
 MOST_PLACES = 200
 
 
-def is_subject(value):
-    """Return whether any object is a subject ("one", user) or ("all", kind), of any names."""
-    if not isinstance(value, tuple) or len(value) != 2 or not isinstance(value[0], str):
-        return False
-    if value[0] == "all":
-        return is_name(value[1])
-    return value[0] == "one" and is_named_pair(value[1])
-
-
 def is_named_pair(value):
     """Return whether any object is a tuple of a name and an integer >= 0."""
-    return isinstance(value, tuple) and len(value) == 2 and is_name(value[0]) and is_number(value[1])
+    return is_pair(value) and is_name(value[0])
 
 
 def are_subjects(value):
-    """Return whether any object is an ascending tuple of different subjects."""
+    """Return whether any object is an ascending tuple of different subjects ("one", user) and ("all", kind)."""
     if not isinstance(value, tuple):
         return False
-    for k, subject in enumerate(value):
-        if not is_subject(subject) or (k > 0 and value[k - 1] >= subject):
+    last = None
+    for subject in value:
+        if not isinstance(subject, tuple) or len(subject) != 2:
             return False
+        word, told = subject
+        if word == "one":
+            # This is done with each user of each set, so what `is_named_pair` tests stands here without calls.
+            if not isinstance(told, tuple) or len(told) != 2 or type(told[1]) is not int or told[1] < 0:
+                return False
+            if not is_name(told[0]):
+                return False
+        elif word != "all" or not is_name(told):
+            return False
+        if last is not None and last >= subject:
+            return False
+        last = subject
     return True
 
 
 def parts_in(tree):
     """Return the tuple of what stands directly in any object, or None if it is no tree by itself."""
-    if not isinstance(tree, tuple) or not 2 <= len(tree) <= 4 or not isinstance(tree[0], str):
+    if not isinstance(tree, tuple) or not 2 <= len(tree) <= 4:
         return None
     word = tree[0]
+    if not isinstance(word, str):
+        return None
+    if len(tree) == 2:
+        inner = tree[1]
+        if word == "set":
+            return () if are_subjects(inner) else None
+        if (word != "any" and word != "both") or not isinstance(inner, tuple) or (word == "both" and not inner):
+            return None
+        return inner
     if word == "but":
         return tree[1:] if len(tree) == 3 else None
     if word == "ring" or word == "open":
         fine = len(tree) == (3 if word == "ring" else 4) and is_named_pair(tree[1]) and is_name(tree[2])
         return tree[3:] if fine else None
-    if len(tree) != 2:
-        return None
-    if word == "set":
-        return () if are_subjects(tree[1]) else None
-    if (word != "any" and word != "both") or not isinstance(tree[1], tuple) or (word == "both" and not tree[1]):
-        return None
-    return tree[1]
+    return None
 
 
 def trees_in(tree):
-    """Return all trees of a whole tree in reading order, as tuples (path, tree, number of its parts).
+    """Return all trees of a whole tree in reading order, and the number of parts of each, as a tuple of two lists.
 
-    Raises InvalidTree for any object that is no whole tree.
+    The trees are told as tuples (tree, index of the tree around it, place in that, number of places of the
+    path). Raises InvalidTree for any object that is no whole tree.
     """
     found = []
+    many = []
+    waiting = [(tree, -1, 0, 0)]
+    while waiting:
+        row = waiting.pop()
+        parts = parts_in(row[0])
+        depth = row[3]
+        found.append(row)
+        if parts is None or depth > MOST_PLACES or len(found) > MOST_TREES:
+            raise InvalidTree(path_of(found, len(found) - 1))
+        many.append(len(parts))
+        if parts:
+            around = len(found) - 1
+            # More parts than can stand there need not be looked at.
+            for k in range(min(len(parts), MOST_TREES + 1) - 1, -1, -1):
+                waiting.append((parts[k], around, k, depth + 1))
+    return found, many
+
+
+def path_of(rows, at):
+    """Return the path of the tree with an index, by where all trees stand."""
     path = []
-    # For each tree around the next one: its parts, and how many of them have been come to.
-    around = [[(tree,), 0]]
-    while around:
-        parts, done = around[-1]
-        if done == len(parts):
-            around.pop()
-            if path:
-                path.pop()
-            continue
-        around[-1][1] += 1
-        if len(around) > 1:
-            path.append(done)
-        inner = parts_in(parts[done])
-        if inner is None or len(path) > MOST_PLACES or len(found) == MOST_TREES:
-            raise InvalidTree(tuple(path))
-        found.append((tuple(path), parts[done], len(inner)))
-        around.append([inner, 0])
-    return found
+    _, around, place, depth = rows[at]
+    while depth > 0:
+        path.append(place)
+        _, around, place, depth = rows[around]
+    return tuple(path[::-1])
 
 
 def with_parts(tree, parts):
@@ -90,22 +105,16 @@ def with_parts(tree, parts):
     return (*tree[:3], parts[0]) if word == "open" else tree
 
 
-def folded(rows, join):
+def folded(trees, many, join):
     """Return what `join` makes of a tree and the list of what it made of its parts, for the whole.
 
-    rows: tuples (tree, number of its parts) of a whole tree, in reading order.
+    trees: those of a whole tree, in reading order; many: how many parts each of them has.
     """
     made = []
-    for tree, many in reversed(rows):
+    for k in range(len(trees) - 1, -1, -1):
         # Those that come later in reading order were made first, so the first part lies on top.
-        parts = [made.pop() for _ in range(many)]
-        made.append(join(tree, parts))
+        made.append(join(trees[k], [made.pop() for _ in range(many[k])] if many[k] else []))
     return made[0]
-
-
-def names_user(subjects, user):
-    """Return whether subjects name a user, by itself or by its kind."""
-    return ("one", user) in subjects or ("all", user[0]) in subjects
 
 
 def without_nobody(tree, parts):

@@ -205,6 +205,16 @@ class OddValuesTest(unittest.TestCase):
             entries = isinstance(value, tuple) and 1 <= len(value) <= 6
             self.assertEqual(told(check_schema, value), wrong(0) if entries else wrong())
 
+    def test_other_objects_behind_a_schema_that_was_asked_for_before(self):
+        self.assertIsNone(check_schema(SCHEMA))
+        for path in paths_of(SCHEMA):
+            here = at_path(SCHEMA, path)
+            if isinstance(here, tuple):
+                self.assertNotEqual(told(check_schema, replaced(SCHEMA, path, list(here)))[0], "fine")
+            elif here in ("one", "all", "direct", "links", "either", "both", "but", "same", "through", "who"):
+                self.assertNotEqual(told(check_schema, replaced(SCHEMA, path, here.encode()))[0], "fine")
+            self.assertIsNone(check_schema(replaced(SCHEMA, path, here)))
+
     def test_other_objects_in_each_place(self):
         for path in paths_of(SCHEMA)[1:]:
             for value in odd_values():

@@ -78,6 +78,34 @@ class HistoryTest(unittest.TestCase):
         self.wrong([[], [5], None, [5]], 1)
         self.wrong([[], [("put", ROW)], None, [5]], 2)
 
+    def test_histories_that_are_nearly_the_one_that_was_asked_for_before(self):
+        rows = [gives(("user", 1)), (("doc", 1), "up", ("one", ("doc", 1))), (DOC, "own", ("all", "user"))]
+        fine = [[("put", rows[0])], [("take", row) for row in rows], [("put", rows[2])]]
+        for one in (True, 1 + 0j):
+            for k, row in enumerate([(("doc", one), "own", ("one", ("user", 1))), (DOC, "own", ("one", ("user", one))),
+                                     (("doc", one), "up", ("one", DOC)), (DOC, "up", ("one", ("doc", one))),
+                                     (("doc", one), "own", ("all", "user"))]):
+                spoilt = [list(write) for write in fine]
+                spoilt[1][(0, 0, 1, 1, 2)[k]] = ("take", row)
+                self.assertEqual(spoilt, fine)
+                for history in (fine, tuple(fine)):
+                    self.assertEqual(snapshot(SCHEMA, [], history, 3), [rows[2]])
+                    self.wrong(spoilt, 1)
+                    self.assertEqual(snapshot(SCHEMA, [], history, 1), [rows[0]])
+                    self.wrong(tuple(spoilt), 1)
+        history = [[("put", rows[0])], [("take", rows[0])]]
+        for known in (history, tuple(history)):
+            self.assertEqual(snapshot(SCHEMA, [], known, 2), [])
+            history[1].append(5)
+            self.wrong(known, 1)
+            history[1].pop()
+            self.assertEqual(snapshot(SCHEMA, [], known, 1), [rows[0]])
+        # What is a history by one schema need not be one by another.
+        self.assertEqual(snapshot(SCHEMA, [], history, 0), [])
+        other = (("user", ()), ("doc", (("own", ("direct", (("all", "user"),))),)))
+        self.assertEqual(told(snapshot, other, [], history, 0), ("InvalidChange", 0))
+        self.assertEqual(snapshot(SCHEMA, [], history, 0), [])
+
     def test_50_changes_and_51(self):
         rows = [("put", gives(("user", k))) for k in range(51)]
         self.assertEqual(len(snapshot(SCHEMA, [], [rows[:50]], 1)), 50)

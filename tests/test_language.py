@@ -35,7 +35,7 @@ BARRED_WORDS = set("""type typing typing_extensions enum Enum IntEnum StrEnum Fl
     namedtuple NamedTuple TypedDict TYPE_CHECKING abstractmethod""".split())
 BARRED_NODES = (
     ast.AsyncFunctionDef, ast.AsyncFor, ast.AsyncWith, ast.Await, ast.Yield, ast.YieldFrom, ast.GeneratorExp,
-    ast.Global, ast.Div, ast.AnnAssign,
+    ast.Div, ast.AnnAssign,
 )
 PRODUCTS = ("product", "combinations", "permutations")
 AT_ONCE = ("zip", "enumerate", "reversed", "range", "map") + PRODUCTS
@@ -183,6 +183,19 @@ class LanguageTest(unittest.TestCase):
             names = [getattr(part, "id", None) for part in ast.walk(node.type)]
             for name in ("Exception", "TypeError", "AttributeError", "RuntimeError", "OverflowError", None):
                 self.assertEqual(names.count(name), 0 if name else names.count(None), place)
+
+    def test_global_names(self):
+        taken = [name for tree in TREES.values() for module, name in imported(tree)]
+        for path, tree in TREES.items():
+            plain = {node.targets[0].id for node in tree.body if isinstance(node, ast.Assign)
+                     and isinstance(node.value, ast.Constant)}
+            statements = [node for node in ast.walk(tree) if isinstance(node, ast.Global)]
+            functions = [node for node in tree.body if isinstance(node, ast.FunctionDef)]
+            first = [statement for function in functions for statement in function.body[1:2]]
+            for node in statements:
+                self.assertIn(node, first, path.name)
+                self.assertLessEqual(set(node.names), plain, path.name)
+                self.assertFalse(set(node.names) & set(taken), path.name)
 
     def test_names(self):
         own = {node.name for tree in TREES.values() for node in classes_in(tree) + functions_in(tree)}
