@@ -5,7 +5,7 @@ from relatedrights.cuts import paths_that_can_go, schema_without
 from relatedrights.errors import Mismatch, TooLarge
 from relatedrights.examples import Example
 from relatedrights.holders import Holders
-from relatedrights.rows import Index, index_of
+from relatedrights.rows import Index, index_of, is_row
 from relatedrights.rules import is_user_kind
 from relatedrights.tables import is_right, require_right, require_thing_kind, tables_of
 
@@ -82,13 +82,7 @@ def rows_lost(schema, other, state):
     tables = tables_of(schema)
     second = tables_of(other)
     index_of(tables, state)
-    return places_lost(second, state)
-
-
-def places_lost(tables, state):
-    """Return the places of rows that are no rows of a schema."""
-    index = Index(tables)
-    return [k for k, row in enumerate(state) if index.read((row,)) is not None]
+    return [k for k, row in enumerate(state) if not is_row(second, row)]
 
 
 def rights_changed(schema, other, state):
@@ -97,9 +91,7 @@ def rights_changed(schema, other, state):
     second = tables_of(other)
     index = index_of(tables, state)
     left = Index(second)
-    for row in state:
-        # A row of another schema is put in, all others are not.
-        left.read((row,))
+    left.read([row for row in state if is_row(second, row)])
     rights = sorted(set(tables.rights() + second.rights()))
     nodes = [(thing, right) for thing in index.things() for kind, right in rights if kind == thing[0]]
     users = index.users()

@@ -4,7 +4,7 @@ from itertools import combinations
 
 from relatedrights.concerns import Concerned, require_concerns
 from relatedrights.errors import Mismatch, TooLarge
-from relatedrights.rows import Index, index_of, is_row
+from relatedrights.rows import are_rows, index_of, is_row
 from relatedrights.tables import tables_of
 from relatedrights.worlds import half_patterns
 
@@ -114,7 +114,7 @@ def require_rows(tables, index, rows):
     """Raise the error of any object that is not a list or tuple of at most ten different rows of a state."""
     if not isinstance(rows, (list, tuple)):
         raise Mismatch("rows")
-    if Index(tables).read(rows) is not None or not all([index.has(row) for row in rows]):
+    if not are_rows(tables, rows) or not all([index.has(row) for row in rows]):
         raise Mismatch("rows")
     if len(set(rows)) < len(rows):
         raise Mismatch("rows")

@@ -4,25 +4,24 @@ The worlds [worlds.py] are states that differ in the rows that offers change.
 """
 
 from relatedrights.errors import InvalidChange
-from relatedrights.rows import Index
+from relatedrights.rows import are_rows
 from relatedrights.rulings import is_step, right_for
 from relatedrights.worlds import Worlds, half_patterns
 
 
-def is_offer(tables, scratch, value):
-    """Return whether any object is an offer; its rows are put into an index that is of no other use."""
-    if not isinstance(value, tuple) or len(value) != 4 or not is_step(tables, scratch, value[:2]):
+def is_offer(tables, value):
+    """Return whether any object is an offer."""
+    if not isinstance(value, tuple) or len(value) != 4 or not is_step(tables, value[:2]):
         return False
-    return all([isinstance(rows, (list, tuple)) and scratch.read(rows) is None for rows in value[2:]])
+    return all([isinstance(rows, (list, tuple)) and are_rows(tables, rows) for rows in value[2:]])
 
 
 def require_offers(tables, offers, most):
     """Raise InvalidChange for any object that is not a list or tuple of at most so many offers."""
     if not isinstance(offers, (list, tuple)) or len(offers) > most:
         raise InvalidChange(-1)
-    scratch = Index(tables)
     for k, offer in enumerate(offers):
-        if not is_offer(tables, scratch, offer):
+        if not is_offer(tables, offer):
             raise InvalidChange(k)
 
 

@@ -19,7 +19,49 @@ def is_user(tables, value):
 
 def is_row(tables, value):
     """Return whether any object is a row."""
-    return Index(tables).read((value,)) is None
+    return are_rows(tables, (value,))
+
+
+def are_rows(tables, values):
+    """Return whether each of some objects, which may be any, is a row."""
+    forms = tables.forms
+    # Rows that stand together are mostly alike, so what is as in the row ahead is not looked up again. No object in
+    # a row is equal to these tables.
+    last_kind = last_relation = far_kind = tables
+    for row in values:
+        if not isinstance(row, tuple) or len(row) != 3:
+            return False
+        thing, relation, subject = row
+        if not isinstance(thing, tuple) or len(thing) != 2 or not isinstance(subject, tuple):
+            return False
+        kind, number = thing
+        if type(number) is not int or number < 0:
+            return False
+        if relation != last_relation or kind != last_kind:
+            if not isinstance(kind, str) or not isinstance(relation, str):
+                return False
+            try:
+                ones, alls, rights = forms[kind][relation]
+            except KeyError:
+                return False
+            last_kind, last_relation, far_kind = kind, relation, tables
+        if len(subject) == 2:
+            word, what = subject
+            if isinstance(what, tuple):
+                if word != "one" or len(what) != 2:
+                    return False
+                far, number = what
+                if type(number) is not int or number < 0:
+                    return False
+                if far != far_kind:
+                    if not isinstance(far, str) or far not in ones:
+                        return False
+                    far_kind = far
+            elif word != "all" or not isinstance(what, str) or what not in alls:
+                return False
+        elif not tells_right(subject, rights):
+            return False
+    return True
 
 
 def require_thing(tables, value):
@@ -103,47 +145,6 @@ class Index:
             else:
                 subjects[subject] = True
         return None
-
-    def fits(self, rows):
-        """Return whether any objects are all rows."""
-        forms = self.tables.forms
-        # The rows of a write are mostly alike, so what is as in the row ahead is not looked up again. No object in
-        # a row is equal to this index.
-        last_kind = last_relation = far_kind = self
-        for row in rows:
-            if not isinstance(row, tuple) or len(row) != 3:
-                return False
-            thing, relation, subject = row
-            if not isinstance(thing, tuple) or len(thing) != 2 or not isinstance(subject, tuple):
-                return False
-            kind, number = thing
-            if type(number) is not int or number < 0:
-                return False
-            if relation != last_relation or kind != last_kind:
-                if not isinstance(kind, str) or not isinstance(relation, str):
-                    return False
-                try:
-                    ones, alls, rights = forms[kind][relation]
-                except KeyError:
-                    return False
-                last_kind, last_relation, far_kind = kind, relation, self
-            if len(subject) == 2:
-                word, what = subject
-                if isinstance(what, tuple):
-                    if word != "one" or len(what) != 2:
-                        return False
-                    far, number = what
-                    if type(number) is not int or number < 0:
-                        return False
-                    if far != far_kind:
-                        if not isinstance(far, str) or far not in ones:
-                            return False
-                        far_kind = far
-                elif word != "all" or not isinstance(what, str) or what not in alls:
-                    return False
-            elif not tells_right(subject, rights):
-                return False
-        return True
 
     def plain(self, kind, relation):
         """Return {thing: {subject: True}} for the subjects of a relation that begin with "one" and "all"."""

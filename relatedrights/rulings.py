@@ -2,7 +2,7 @@
 
 from relatedrights.askers import Asker
 from relatedrights.errors import InvalidChange, InvalidRules, InvalidUser, Mismatch
-from relatedrights.rows import Index, is_user
+from relatedrights.rows import is_row, is_user
 from relatedrights.rules import has_but, is_thing_kind
 from relatedrights.tables import is_right
 from relatedrights.writes import is_change_like
@@ -46,21 +46,21 @@ def require_no_buts(tables):
         raise Mismatch("schema")
 
 
-def is_change(scratch, value):
-    """Return whether any object is a change; its row is put into an index that is of no other use."""
-    return is_change_like(value) and scratch.read((value[1],)) is None
+def is_change(tables, value):
+    """Return whether any object is a change."""
+    return is_change_like(value) and is_row(tables, value[1])
 
 
-def is_step(tables, scratch, value):
-    """Return whether any object is a step; its row is put into an index that is of no other use."""
+def is_step(tables, value):
+    """Return whether any object is a step."""
     if not isinstance(value, tuple) or len(value) != 2:
         return False
-    return is_user(tables, value[0]) and is_change(scratch, value[1])
+    return is_user(tables, value[0]) and is_change(tables, value[1])
 
 
 def require_change(tables, change):
     """Raise InvalidChange for any object that is not a change."""
-    if not is_change(Index(tables), change):
+    if not is_change(tables, change):
         raise InvalidChange(0)
 
 
@@ -68,9 +68,8 @@ def require_steps(tables, steps):
     """Raise InvalidChange for any object that is not a list or tuple of steps."""
     if not isinstance(steps, (list, tuple)):
         raise InvalidChange(-1)
-    scratch = Index(tables)
     for k, step in enumerate(steps):
-        if not is_step(tables, scratch, step):
+        if not is_step(tables, step):
             raise InvalidChange(k)
 
 

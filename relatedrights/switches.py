@@ -6,7 +6,7 @@ The change with the indexes in some places makes the world [worlds.py] in whose 
 from itertools import combinations
 
 from relatedrights.errors import Mismatch, TooLarge
-from relatedrights.rows import Index, is_thing, is_user
+from relatedrights.rows import are_rows, is_thing, is_user
 from relatedrights.tables import is_right
 from relatedrights.worlds import Worlds, half_patterns
 
@@ -16,7 +16,7 @@ MOST_WISHES = 8
 
 def require_switches(tables, switches):
     """Raise the error of any object that is not a list or tuple of at most ten different rows."""
-    if not isinstance(switches, (list, tuple)) or Index(tables).read(switches) is not None:
+    if not isinstance(switches, (list, tuple)) or not are_rows(tables, switches):
         raise Mismatch("switches")
     if len(set(switches)) < len(switches):
         raise Mismatch("switches")

@@ -2,7 +2,7 @@
 
 from relatedrights.errors import InvalidText, Mismatch
 from relatedrights.live import Live
-from relatedrights.rows import Index, index_of, is_user
+from relatedrights.rows import index_of, is_row, is_user
 from relatedrights.tables import tables_of
 from relatedrights.wordings import (
     change_text, read_change, read_row, read_rule, row_text, rows_of_text, rule_text,
@@ -48,11 +48,10 @@ def read_rows(schema, text):
     """Return the rows of a text [13.2]."""
     tables = tables_of(schema)
     require_text(text)
-    index = Index(tables)
     found = []
     for k, (line, ended) in enumerate(rows_of_text(text)):
         row = read_row(line.split(" "))
-        if not ended or row is None or index.read((row,)) is not None:
+        if not ended or row is None or not is_row(tables, row):
             raise InvalidText(k)
         found.append(row)
     return found
@@ -70,10 +69,9 @@ def read_journal(schema, rules, text):
     live = Live(schema, rules)
     require_text(text)
     tables = tables_of(schema)
-    index = Index(tables)
     for k, (line, ended) in enumerate(rows_of_text(text)):
         told = read_change(line.split(" "))
-        if not ended or told is None or index.read((told[1][1],)) is not None:
+        if not ended or told is None or not is_row(tables, told[1][1]):
             raise InvalidText(k)
         if (told[0] is not None and not is_user(tables, told[0])) or not live.do(told[0], told[1]):
             raise InvalidText(k)

@@ -114,9 +114,8 @@ def shows_way(schema, rules, state, company, thing, relation, user, steps):
     require_user(tables, user)
     if not isinstance(steps, (list, tuple)):
         return False
-    scratch = Index(tables)
     for step in steps:
-        if not is_step(tables, scratch, step) or step[0] not in company or not writing.may(step[0], step[1]):
+        if not is_step(tables, step) or step[0] not in company or not writing.may(step[0], step[1]):
             return False
         writing.do(step[1])
     return writing.has(thing, relation, user)

@@ -1,14 +1,14 @@
 """Changes, writes and histories: which objects are such, and the snapshots that they make."""
 
 from relatedrights.errors import InvalidChange, InvalidToken
-from relatedrights.rows import Index
+from relatedrights.rows import are_rows
 
 MOST_CHANGES = 50
 MOST_WRITES = 200
 
 
-def is_write(index, value):
-    """Return whether any object is a write, by the schema of an index."""
+def is_write(tables, value):
+    """Return whether any object is a write."""
     if not isinstance(value, (list, tuple)) or len(value) > MOST_CHANGES:
         return False
     for change in value:
@@ -16,7 +16,7 @@ def is_write(index, value):
         if not isinstance(change, tuple) or len(change) != 2 or (change[0] != "put" and change[0] != "take"):
             return False
     rows = [row for _, row in value]
-    return index.fits(rows) and len(set(rows)) == len(rows)
+    return are_rows(tables, rows) and len(set(rows)) == len(rows)
 
 
 def is_change_like(value):
@@ -31,9 +31,8 @@ def require_history(tables, history):
     # One history is mostly asked for many times in a row. What is equal to it can differ from it in numbers only.
     if tables.history is not None and history == tables.history and has_plain_numbers(history):
         return
-    index = Index(tables)
     for k, write in enumerate(history):
-        if not is_write(index, write):
+        if not is_write(tables, write):
             raise InvalidChange(k)
     copied = [list(write) if isinstance(write, list) else write for write in history]
     tables.history = copied if isinstance(history, list) else tuple(copied)
