@@ -107,6 +107,28 @@ class LeastChangeTest(unittest.TestCase):
         self.assertEqual(least_change(SCHEMA, [], switches[3::-1], [wish()]), (0, 1))
         self.assertEqual(minimal_changes(SCHEMA, [TEAMS], switches[:3], [wish()]), [(0,)])
 
+    def test_changes_of_which_a_much_smaller_part_is_enough(self):
+        # Both rows or none of them: neither one alone.
+        either, both = ("either", (("same", "a"), ("same", "b"))), ("both", (("same", "a"), ("same", "b")))
+        schema = (("user", ()), ("doc", (("a", ONE), ("b", ONE), ("c", ONE), ("d", ONE), ("same", (
+            "either", (both, ("but", ("direct", (("all", "user"),)), either)))))))
+        state = [(DOC, "same", ("all", "user"))]
+        rows = [view(ANN, DOC, name) for name in "abcd"]
+        wishes = [wish(relation="same")]
+        self.assertEqual(minimal_changes(schema, state, rows[:2], wishes), [()])
+        self.assertEqual(minimal_changes(schema, state, rows, wishes), [()])
+        self.assertEqual(minimal_changes(schema, state + rows[:1], rows, wishes), [(0,), (1,)])
+        both_rows = [wish(relation="c"), wish(relation="same")]
+        self.assertEqual(minimal_changes(schema, state, rows[::-1], both_rows), [(1,)])
+        self.assertEqual(minimal_changes(schema, [], rows, wishes), [(0, 1)])
+        # All three or none of them.
+        either, both = ("either", (("same", "a"), ("same", "b"), ("same", "c"))), ("both", (
+            ("same", "a"), ("same", "b"), ("same", "c")))
+        schema = schema[:1] + (("doc", schema[1][1][:4] + (("same", ("either", (both, (
+            "but", ("direct", (("all", "user"),)), either)))),)),)
+        self.assertEqual(minimal_changes(schema, state, rows, wishes), [()])
+        self.assertEqual(minimal_changes(schema, [], rows, wishes), [(0, 1, 2)])
+
     def test_wishes_that_the_state_meets_and_that_nothing_meets(self):
         self.assertEqual(least_change(SCHEMA, [EVERYONE], [EVERYONE], [wish()]), ())
         self.assertEqual(minimal_changes(SCHEMA, [EVERYONE], [EVERYONE], [wish()]), [()])

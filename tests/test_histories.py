@@ -93,6 +93,10 @@ class HistoryTest(unittest.TestCase):
                     self.wrong(spoilt, 1)
                     self.assertEqual(snapshot(SCHEMA, [], history, 1), [rows[0]])
                     self.wrong(tuple(spoilt), 1)
+                # Each row by itself, too.
+                only = [("take", (rows[0], rows[0], rows[1], rows[1], rows[2])[k])]
+                self.assertEqual(snapshot(SCHEMA, [], [only], 1), [])
+                self.wrong([[("take", row)]], 0)
         history = [[("put", rows[0])], [("take", rows[0])]]
         for known in (history, tuple(history)):
             self.assertEqual(snapshot(SCHEMA, [], known, 2), [])

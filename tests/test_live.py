@@ -254,6 +254,21 @@ class EqualityTest(unittest.TestCase):
         third = self.stores(rows=rows[:3] + [row(ANN, "see")], forget=4)
         self.assertNotEqual(second, third)
 
+    def test_one_thing_alone_that_is_not_the_same(self):
+        # The same rows and no changes, but another token; then the same tokens, but other rows.
+        first = self.stores(rows=(OWN,))
+        first.do(None, ("take", OWN))
+        first.forget(2)
+        self.assertEqual((first.content(), first.since(2)), ([], []))
+        self.assertNotEqual(first, self.stores(rows=()))
+        self.assertNotEqual(self.stores(rows=()), first)
+        self.assertNotEqual(self.stores(rows=(OWN,), forget=1), self.stores(rows=(SEE,), forget=1))
+        # Who has done a change is not one of the things that are told.
+        one, other = self.stores(rows=(OWN,)), self.stores(rows=(OWN,))
+        one.do(None, ("put", SEE))
+        other.do(ANN, ("put", SEE))
+        self.assertEqual(one, other)
+
     def test_changes_that_lead_to_the_same_rows(self):
         first, second = self.stores(), self.stores()
         for user, change in ((None, ("put", BAN)), (None, ("take", BAN))):

@@ -174,6 +174,25 @@ class SetsTest(unittest.TestCase):
         self.assertEqual(greatest_sets(SCHEMA, state, READ, state[:1]), [()])
         self.assertEqual(greatest_sets(SCHEMA, state, READ, state[::-1]), [(1, 2)])
 
+    def test_sets_that_can_go_only_together(self):
+        # Both rows or none of them: neither one alone.
+        either, both = ("either", (("same", "a"), ("same", "b"))), ("both", (("same", "a"), ("same", "b")))
+        schema = (("user", ()), ("doc", (("a", ONE), ("b", ONE), ("c", ONE), ("same", (
+            "either", (both, ("but", ("direct", (("all", "user"),)), either)))))))
+        state = [one(ANN, DOC, name) for name in "abc"] + [(DOC, "same", ("all", "user"))]
+        self.assertEqual(greatest_sets(schema, state, [("doc", "same")], state[:2]), [(0, 1)])
+        self.assertEqual(count_sets(schema, state, [("doc", "same")], state[:2]), 2)
+        self.assertEqual(greatest_sets(schema, state, [("doc", "same")], state[:3]), [(0, 1, 2)])
+        self.assertEqual(count_sets(schema, state, [("doc", "same")], state[:3]), 4)
+        self.assertEqual(greatest_sets(schema, state, [("doc", "same"), ("doc", "c")], state[:3]), [(0, 1)])
+        # All three or none of them.
+        either, both = ("either", (("same", "a"), ("same", "b"), ("same", "c"))), ("both", (
+            ("same", "a"), ("same", "b"), ("same", "c")))
+        schema = schema[:1] + (("doc", schema[1][1][:3] + (("same", ("either", (both, (
+            "but", ("direct", (("all", "user"),)), either)))),)),)
+        self.assertEqual(greatest_sets(schema, state, [("doc", "same")], state[:3]), [(0, 1, 2)])
+        self.assertEqual(count_sets(schema, state, [("doc", "same")], state[:3]), 2)
+
     def test_no_rows(self):
         self.assertEqual(greatest_sets(SCHEMA, [one(ANN)], READ, []), [()])
         self.assertEqual(count_sets(SCHEMA, [one(ANN)], READ, ()), 1)

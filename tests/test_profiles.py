@@ -208,7 +208,9 @@ class SoundTest(unittest.TestCase):
         self.assertIs(is_sound(self.SCHEMA, "user", ()), True)
         self.assertIs(is_sound(self.SCHEMA, "user", self.ALL), True)
         self.assertIs(is_sound(self.SCHEMA, "user", tuple(self.ALL[::-1])), True)
-        self.assertIs(is_sound(self.SCHEMA, "user", self.ALL + self.ALL[:1]), False)
+        for entry in self.ALL:
+            self.assertIs(is_sound(self.SCHEMA, "user", self.ALL + [entry]), False)
+            self.assertIs(is_sound(self.SCHEMA, "user", (entry, entry)), False)
         self.assertIs(is_sound(self.SCHEMA, "user", soundest(self.SCHEMA, "user")[::-1]), True)
 
     def test_any_object_in_any_place(self):

@@ -322,6 +322,27 @@ class FewestTest(unittest.TestCase):
                          [(ANN, ("take", everyone)), (ANN, ("take", ban))])
         self.assertIsNone(fewest(schema, rules, state, [ANN], rows[1:], DOC, "see", ANN))
 
+    def test_rows_that_are_put_and_taken_again(self):
+        # With the key a door is opened, but who holds the key does not see.
+        schema = (("user", ()), ("doc", (("own", ONE), ("key", ONE), ("door", ONE), ("see", (
+            "but", ("same", "door"), ("same", "key"))))))
+        rules = [("doc", "key", "own", "own"), ("doc", "door", "key", "own")]
+        key, door = row(DOC, "key", ANN), row(DOC, "door", ANN)
+        self.assertEqual(fewest(schema, rules, [OWN], [ANN], [door, key], DOC, "see", ANN),
+                         [(ANN, ("put", key)), (ANN, ("put", door)), (ANN, ("take", key))])
+        self.assertEqual(fewest(schema, rules, [OWN, key], [ANN], [door, key], DOC, "see", ANN),
+                         [(ANN, ("put", door)), (ANN, ("take", key))])
+        # The other way about: a row is taken, and put again.
+        rules = [("doc", "key", "own", "own"), ("doc", "door", "own", "own"), ("doc", "own", "key", "key")]
+        self.assertEqual(fewest(schema, rules, [OWN, key], [ANN], [key, OWN, door], DOC, "see", ANN),
+                         [(ANN, ("put", door)), (ANN, ("take", key))])
+        nobody = ("but", ("same", "own"), ("either", (("same", "key"), ("same", "door"))))
+        schema = schema[:1] + (("doc", schema[1][1][:3] + (("free", nobody), ("see", ("both", (
+            ("same", "own"), ("same", "door")))))),)
+        rules = [("doc", "key", None, "own"), ("doc", "door", "free", None), ("doc", "own", "key", "own")]
+        self.assertEqual(fewest(schema, rules, [OWN, key], [ANN], [key, OWN, door], DOC, "see", ANN),
+                         [(ANN, ("take", key)), (ANN, ("put", door))])
+
     def test_10_rows_and_11(self):
         rows = [row(DOC, "edit", ("user", k)) for k in range(11)]
         self.assertEqual(fewest(SCHEMA, RULES, STATE, [ANN], rows[:10], DOC, "edit", ("user", 9)), [(ANN, ("put", rows[9]))])
@@ -400,6 +421,25 @@ class GrowingTest(unittest.TestCase):
         for relation in ("none", None, ["a"]):
             self.assertEqual(told(can_grow, wide, rules, "doc", "user", ["a"], relation), ("InvalidRelation", relation))
             self.assertEqual(told(keepers, wide, rules, "doc", "user", relation), ("InvalidRelation", relation))
+
+    def test_several_rights_through_one_link(self):
+        # What is linked to may have none of the rights at first that do not come through the link.
+        names = ("a", "b", "c")
+        schema = (("user", ()), ("doc", (("own", ONE),) + tuple((name, ONE) for name in names)), ("dir", (
+            ("up", ("links", ("doc",))),) + tuple((name, ("through", "up", name)) for name in names)))
+        rules = [("doc", name, "own", None) for name in names]
+        for profile in ((), ("a",), ("b",), ("c",), ("a", "b"), ("a", "c"), ("b", "c")):
+            for name in names:
+                self.assertIs(can_grow(schema, rules, "dir", "user", profile, name), True)
+                state, user, thing, steps = growing(schema, rules, "dir", "user", profile, name)
+                self.assertEqual(tuple(one for one in names if check(schema, state, thing, one, user)), profile)
+                self.assertIs(shows_way(schema, rules, state, [user], thing, name, user, steps), True)
+            self.assertEqual(keepers(schema, [], "dir", "user", "b"), [(), ("a",), ("a", "c"), ("c",)])
+        # Only b can be put: who lacks a and c by the link can not come to them, whatever else there is.
+        for profile in ((), ("a",), ("b",), ("c",), ("a", "c")):
+            self.assertIs(can_grow(schema, rules[1:2], "dir", "user", profile, "b"), True)
+            for name in ("a", "c"):
+                self.assertIs(can_grow(schema, rules[1:2], "dir", "user", profile, name), name in profile)
 
     def test_rows_that_tell_what_is_had_only_later(self):
         # To the second document the user comes by own puts; the first one has a row that tells so.
